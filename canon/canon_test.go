@@ -8,25 +8,10 @@ import (
 	"trefoil/api"
 	"trefoil/graph"
 	"trefoil/load"
+	"trefoil/sample"
 )
 
-func con(name string, a ...int) api.Node { return api.Node{Kind: api.NCon, Name: name, Args: a} }
-func obj(open bool, labels string, a ...int) api.Node {
-	n := api.Node{Kind: api.NObj, Open: open, Args: a}
-	for _, c := range labels {
-		n.Labels = append(n.Labels, string(c))
-	}
-	return n
-}
-func gr(root int, n ...api.Node) api.Graph { return api.Graph{N: n, Root: root} }
-
-var va = api.Node{Kind: api.NVar}
-
-func equal(g, h api.Graph) bool {
-	return g.Root == h.Root && slices.EqualFunc(g.N, h.N, func(a, b api.Node) bool {
-		return a.Kind == b.Kind && a.Name == b.Name && a.Open == b.Open && slices.Equal(a.Args, b.Args) && slices.Equal(a.Labels, b.Labels)
-	})
-}
+var con, obj, gr, va, equal = sample.Con, sample.Obj, sample.Graph, sample.Var(), sample.Equal
 
 // P9.1: classes of all nodes, reached or not.
 func TestClasses(t *testing.T) {

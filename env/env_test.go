@@ -9,11 +9,10 @@ import (
 	"trefoil/graph"
 	"trefoil/load"
 	"trefoil/name"
+	"trefoil/sample"
 )
 
-func con(name string, a ...int) api.Node { return api.Node{Kind: api.NCon, Name: name, Args: a} }
-
-var va = api.Node{Kind: api.NVar}
+var con, va = sample.Con, sample.Var()
 
 func read(t *testing.T, s string) api.Graph {
 	g, e := load.Read(s)

@@ -9,18 +9,10 @@ import (
 
 	"trefoil/api"
 	"trefoil/graph"
+	"trefoil/sample"
 )
 
-func con(name string, a ...int) api.Node { return api.Node{Kind: api.NCon, Name: name, Args: a} }
-func obj(open bool, labels string, a ...int) api.Node {
-	n := api.Node{Kind: api.NObj, Open: open, Args: a}
-	for _, c := range labels {
-		n.Labels = append(n.Labels, string(c))
-	}
-	return n
-}
-
-var va = api.Node{Kind: api.NVar}
+var con, obj, va = sample.Con, sample.Obj, sample.Var()
 
 func equal(g api.Graph, n []api.Node) bool {
 	return g.Root == 0 && slices.EqualFunc(g.N, n, func(a, b api.Node) bool {

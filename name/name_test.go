@@ -10,20 +10,11 @@ import (
 	"trefoil/canon"
 	"trefoil/graph"
 	"trefoil/load"
+	"trefoil/sample"
 	"trefoil/tree"
 )
 
-func con(name string, a ...int) api.Node { return api.Node{Kind: api.NCon, Name: name, Args: a} }
-func obj(open bool, labels string, a ...int) api.Node {
-	n := api.Node{Kind: api.NObj, Open: open, Args: a}
-	for _, c := range labels {
-		n.Labels = append(n.Labels, string(c))
-	}
-	return n
-}
-func gr(root int, n ...api.Node) api.Graph { return api.Graph{N: n, Root: root} }
-
-var va = api.Node{Kind: api.NVar}
+var con, obj, gr, va = sample.Con, sample.Obj, sample.Graph, sample.Var()
 
 // P10.1: names.
 func TestName(t *testing.T) {

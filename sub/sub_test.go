@@ -9,19 +9,10 @@ import (
 	"trefoil/graph"
 	"trefoil/load"
 	"trefoil/name"
+	"trefoil/sample"
 )
 
-func con(name string, a ...int) api.Node { return api.Node{Kind: api.NCon, Name: name, Args: a} }
-func obj(open bool, labels string, a ...int) api.Node {
-	n := api.Node{Kind: api.NObj, Open: open, Args: a}
-	for _, c := range labels {
-		n.Labels = append(n.Labels, string(c))
-	}
-	return n
-}
-func gr(root int, n ...api.Node) api.Graph { return api.Graph{N: n, Root: root} }
-
-var va = api.Node{Kind: api.NVar}
+var con, obj, gr, va = sample.Con, sample.Obj, sample.Graph, sample.Var()
 
 func read(t *testing.T, s string) api.Graph {
 	g, e := load.Read(s)
