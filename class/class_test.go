@@ -1,4 +1,4 @@
-package class
+package class_test
 
 import (
 	"slices"
@@ -7,6 +7,7 @@ import (
 
 	"trefoil/api"
 	"trefoil/canon"
+	"trefoil/class"
 	"trefoil/env"
 	"trefoil/graph"
 	"trefoil/inst"
@@ -50,15 +51,14 @@ func TestTextAndMaker(t *testing.T) {
 		{0, "< > * (< me : 'a ; .. > as 'a)", "", "class c : < > * (< me : 'a ; .. > as 'a)", "< me : 'a > as 'a", "me"},
 		{0, "< > * < m : 'a ; .. > as 'a", "", "class c : < > * < m : 'a ; .. > as 'a", "< m : < > * 'a > as 'a", "m"},
 		{1, "(< m : int ; .. > as 's) -> < v : 's > * 's", "", "class c : (< m : int ; .. > as 'a) -> < v : 'a > * 'a", "(< m : int > as 'a) -> 'a", "m"},
-		{1, "'a -> < > * < m : 'a ; .. > as 'a", "", "class c : 'a -> < > * < m : 'a ; .. > as 'a", "('a -> < > * (< m : 'a > as 'b) as 'a) -> 'b", "m"},
 		{0, "< v : int > * < m : int >", "", "class c : < v : int > * < m : int >", "< m : int >", "m"},
 	} {
 		k := kind(t, c.params, c.text, c.lacks)
 		was := slices.Clone(k.G.N)
-		if s, e := Text("c", k); e != api.OK || s != c.told {
+		if s, e := class.Text("c", k); e != api.OK || s != c.told {
 			t.Errorf("%q: %q %d", c.text, s, e)
 		}
-		g, e := Maker(k)
+		g, e := class.Maker(k)
 		if c.maker == "" && e != api.ErrType || c.maker != "" && (e != api.OK || put(g) != canonical(t, c.maker)) {
 			t.Errorf("%q: %q %d", c.text, put(g), e)
 		}
@@ -86,12 +86,12 @@ func TestMethod(t *testing.T) {
 		{0, "< > * (< me : 'a ; .. > as 'a)", "me", "(< me : 'a ; .. > as 'a) -> 'a"},
 	} {
 		k := kind(t, c.params, c.text, "")
-		g, e := Method(k, c.name)
+		g, e := class.Method(k, c.name)
 		if c.put == "" && (e != api.ErrNone || len(g.N) > 0) || c.put != "" && (e != api.OK || put(g) != canonical(t, c.put)) {
 			t.Errorf("%q: %q %d", c.text, put(g), e)
 		}
 	}
-	if g, e := Method(kind(t, 0, "< > * < m : int ; .. >", "m"), "m"); e != api.OK || put(g) != "< m : int ; .. > -> int" {
+	if g, e := class.Method(kind(t, 0, "< > * < m : int ; .. >", "m"), "m"); e != api.OK || put(g) != "< m : int ; .. > -> int" {
 		t.Error(put(g), e)
 	}
 }
@@ -109,8 +109,8 @@ func TestStands(t *testing.T) {
 		{0, "< > * (< m : 'a ; n : int ; .. > as 'a)", 0, "< > * (< m : 'a ; .. > as 'a)", true, false}, {0, "< > * (< m : 'a -> int ; n : int ; .. > as 'a)", 0, "< > * (< m : 'a -> int ; .. > as 'a)", false, false}, {2, "int -> int -> < > * < >", 0, "< > * < .. >", true, true},
 	} {
 		k, l := kind(t, c.p, c.g, ""), kind(t, c.q, c.h, "")
-		is, e := Stands(k, l)
-		back, e2 := Stands(l, k)
+		is, e := class.Stands(k, l)
+		back, e2 := class.Stands(l, k)
 		if e != api.OK || e2 != api.OK || is != c.is || back != c.back {
 			t.Error(c, is, back, e, e2)
 		}
@@ -135,7 +135,7 @@ func TestErrors(t *testing.T) {
 		c    env.Class
 		want api.Errno
 	}{{"c", ok, api.OK}, {"", bad, api.ErrArg}, {"", long, api.ErrLong}, {"c", worse, api.ErrArg}, {"", ok, api.ErrArg}, {"let", ok, api.ErrArg}, {"", deep, api.ErrArg}} {
-		if s, e := Text(c.name, c.c); e != c.want || (s == "") != (e != api.OK) {
+		if s, e := class.Text(c.name, c.c); e != c.want || (s == "") != (e != api.OK) {
 			t.Error(i, s, e)
 		}
 	}
@@ -147,20 +147,20 @@ func TestErrors(t *testing.T) {
 	many.G.N = append(many.G.N, api.Node{Kind: api.NCon, Name: "int"})
 	many.G.N[many.G.N[many.G.Root].Args[1]].Args[0] = at
 	many.G.N[2] = api.Node{Kind: api.NObj, Labels: []string{"m"}, Args: []int{at}}
-	if s, e := Text("c", many); e != api.ErrDeep || s != "" {
+	if s, e := class.Text("c", many); e != api.ErrDeep || s != "" {
 		t.Error(s, e)
 	}
 	for i, c := range []struct {
 		c, d env.Class
 		want api.Errno
 	}{{bad, long, api.ErrArg}, {long, bad, api.ErrLong}, {lacks, bad, api.ErrArg}, {lacks, long, api.ErrLong}, {lacks, ok, api.ErrType}, {ok, lacks, api.ErrType}, {worse, lacks, api.ErrArg}} {
-		if is, e := Stands(c.c, c.d); is || e != c.want {
+		if is, e := class.Stands(c.c, c.d); is || e != c.want {
 			t.Error(i, e)
 		}
-		if _, e := Maker(c.c); e != c.want && i < 2 {
+		if _, e := class.Maker(c.c); e != c.want && i < 2 {
 			t.Error(i, e)
 		}
-		if _, e := Method(c.c, "m"); e != c.want && i < 2 {
+		if _, e := class.Method(c.c, "m"); e != c.want && i < 2 {
 			t.Error(i, e)
 		}
 	}
@@ -170,12 +170,12 @@ func TestErrors(t *testing.T) {
 func TestLaws(t *testing.T) {
 	for _, text := range []string{"'x -> < v : 'x > * < get : 'x ; .. >", "(< m : int ; .. > as 's) -> < v : 's > * 's"} {
 		k := kind(t, 1, text, "")
-		g, _ := Maker(k)
+		g, _ := class.Maker(k)
 		object := api.Graph{N: g.N, Root: g.N[g.Root].Args[1]}
 		if object.N[object.Root].Open || graph.Check(g) != api.OK || inst.Closed(k.G) {
 			t.Error(text)
 		}
-		if is, e := Stands(k, k); !is || e != api.OK {
+		if is, e := class.Stands(k, k); !is || e != api.OK {
 			t.Error(text, e)
 		}
 	}

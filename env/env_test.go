@@ -1,4 +1,4 @@
-package env
+package env_test
 
 import (
 	"slices"
@@ -6,6 +6,7 @@ import (
 	"testing"
 
 	"trefoil/api"
+	"trefoil/env"
 	"trefoil/graph"
 	"trefoil/load"
 	"trefoil/name"
@@ -26,7 +27,7 @@ func put(g api.Graph) string { s, _ := name.Put(g); return s }
 
 // P14.2: what is there from the start.
 func TestNew(t *testing.T) {
-	e := New()
+	e := env.New()
 	if !slices.Equal(e.Values(), []string{"fst", "not", "snd"}) || len(e.Classes()) != 0 {
 		t.Error(e.Values(), e.Classes())
 	}
@@ -46,15 +47,15 @@ func TestNew(t *testing.T) {
 
 // P14.2, P14.3: the last meaning counts, an Env never changes, values and classes are apart.
 func TestWith(t *testing.T) {
-	e := New()
+	e := env.New()
 	a, no := e.WithValue("x", read(t, "int -> int"))
 	b, no2 := a.WithValue("x", read(t, "'a -> 'b"))
-	c, no3 := b.WithClass("x", Class{G: read(t, "< v : int > * < m : int ; n : bool ; .. >"), Concrete: []string{"m"}, Virtual: []string{"n"}})
+	c, no3 := b.WithClass("x", env.Class{G: read(t, "< v : int > * < m : int ; n : bool ; .. >"), Concrete: []string{"m"}, Virtual: []string{"n"}})
 	d, no4 := c.WithValue("fst", read(t, "int"))
 	if no != api.OK || no2 != api.OK || no3 != api.OK || no4 != api.OK {
 		t.Fatal(no, no2, no3, no4)
 	}
-	told := func(e *Env, s string) string { g, _ := e.Value(s); return put(g) }
+	told := func(e *env.Env, s string) string { g, _ := e.Value(s); return put(g) }
 	if told(e, "x") != "" || told(a, "x") != "int -> int" || told(b, "x") != "'a -> 'b" || told(d, "x") != "'a -> 'b" || told(d, "fst") != "int" || told(c, "fst") != "'a * 'b -> 'a" {
 		t.Error("values")
 	}
@@ -62,7 +63,7 @@ func TestWith(t *testing.T) {
 		t.Error("names")
 	}
 	x, no := d.Class("x")
-	if no != api.OK || put(x.G) != "< v : int > * < m : int ; n : bool ; .. >" || !slices.Equal(x.Concrete, []string{"m"}) || !slices.Equal(x.Virtual, []string{"n"}) || x.Params != 0 || !slices.Equal(Fields(x), []string{"v"}) {
+	if no != api.OK || put(x.G) != "< v : int > * < m : int ; n : bool ; .. >" || !slices.Equal(x.Concrete, []string{"m"}) || !slices.Equal(x.Virtual, []string{"n"}) || x.Params != 0 || !slices.Equal(env.Fields(x), []string{"v"}) {
 		t.Error(x, no)
 	}
 	if _, no := b.Class("x"); no != api.ErrNone {
@@ -76,8 +77,8 @@ func TestWith(t *testing.T) {
 
 // P14.2: what is handed in and out is nobody else's.
 func TestOwn(t *testing.T) {
-	e := New()
-	c := Class{Params: 1, G: read(t, "int -> < v : int > * < m : int >"), Concrete: []string{"m"}}
+	e := env.New()
+	c := env.Class{Params: 1, G: read(t, "int -> < v : int > * < m : int >"), Concrete: []string{"m"}}
 	e, _ = e.WithClass("c", c)
 	c.G.N[0].Name, c.Concrete[0] = "*", "z"
 	for range 2 {
@@ -99,8 +100,8 @@ func TestOwn(t *testing.T) {
 
 // P14.2: errors, and a nil Env.
 func TestFaults(t *testing.T) {
-	e, ok, bad, long := New(), read(t, "int"), api.Graph{}, api.Graph{N: make([]api.Node, api.MaxNodes+1)}
-	class := Class{G: read(t, "< > * < >")}
+	e, ok, bad, long := env.New(), read(t, "int"), api.Graph{}, api.Graph{N: make([]api.Node, api.MaxNodes+1)}
+	class := env.Class{G: read(t, "< > * < >")}
 	for i, c := range []struct {
 		name string
 		g    api.Graph
@@ -119,10 +120,10 @@ func TestFaults(t *testing.T) {
 			t.Error(i, no)
 		}
 	}
-	if f, no := e.WithClass("x", Class{G: ok}); f != nil || no != api.ErrArg {
+	if f, no := e.WithClass("x", env.Class{G: ok}); f != nil || no != api.ErrArg {
 		t.Error(no)
 	}
-	var none *Env
+	var none *env.Env
 	g, n1 := none.Value("x")
 	c, n2 := none.Class("x")
 	f, n3 := none.WithValue("", ok)
@@ -151,32 +152,32 @@ func TestCheckClass(t *testing.T) {
 		{0, "< > * < m : int >", nil, nil, api.ErrArg, nil}, {0, "< > * < >", m, nil, api.ErrArg, nil}, {0, "< > * < m : int >", m, m, api.ErrArg, nil}, {0, "< > * < m : int ; n : int >", []string{"n", "m"}, nil, api.ErrArg, nil}, {0, "< > * < m : int >", []string{"m", "m"}, nil, api.ErrArg, nil},
 		{0, "< > * < m : int ; n : int >", m, []string{"o"}, api.ErrArg, nil}, {0, "< > * < m : int ; .. >", m, n, api.ErrArg, nil}, {0, "< > * < >", []string{""}, nil, api.ErrArg, nil}, {1, "< > * < > as 'a", nil, nil, api.ErrArg, nil}, {100, "int -> 'a as 'a", nil, nil, api.ErrArg, nil},
 	} {
-		x := Class{c.params, read(t, c.text), c.has, c.lacks}
-		if no := CheckClass(x); no != c.want || !slices.Equal(Fields(x), c.fields) {
-			t.Error(i, no, Fields(x))
+		x := env.Class{c.params, read(t, c.text), c.has, c.lacks}
+		if no := env.CheckClass(x); no != c.want || !slices.Equal(env.Fields(x), c.fields) {
+			t.Error(i, no, env.Fields(x))
 		}
 	}
 	hundred := "< > * < >"
 	for range 100 {
 		hundred = "int -> " + hundred
 	}
-	if no := CheckClass(Class{Params: 100, G: read(t, hundred)}); no != api.OK {
+	if no := env.CheckClass(env.Class{Params: 100, G: read(t, hundred)}); no != api.OK {
 		t.Error(no)
 	}
-	if no := CheckClass(Class{Params: 101, G: read(t, "int -> "+hundred)}); no != api.ErrArg {
+	if no := env.CheckClass(env.Class{Params: 101, G: read(t, "int -> "+hundred)}); no != api.ErrArg {
 		t.Error(no)
 	}
-	long := Class{Params: -1, G: api.Graph{N: make([]api.Node, api.MaxNodes+1)}}
-	if CheckClass(long) != api.ErrLong || CheckClass(Class{Params: -1}) != api.ErrArg || Fields(long) != nil {
+	long := env.Class{Params: -1, G: api.Graph{N: make([]api.Node, api.MaxNodes+1)}}
+	if env.CheckClass(long) != api.ErrLong || env.CheckClass(env.Class{Params: -1}) != api.ErrArg || env.Fields(long) != nil {
 		t.Error("graphs that may not be")
 	}
-	f := Fields(Class{G: read(t, "< v : int > * < >")})
+	f := env.Fields(env.Class{G: read(t, "< v : int > * < >")})
 	f[0] = "x"
 }
 
 // P14.2: a long chain.
 func TestMany(t *testing.T) {
-	e := New()
+	e := env.New()
 	g := read(t, "int")
 	for i := range 3000 {
 		e, _ = e.WithValue("x"+strconv.Itoa(i%1000), g)

@@ -1,12 +1,14 @@
-package eval
+package eval_test
 
 import (
+	"maps"
 	"math/rand"
 	"slices"
 	"strings"
 	"testing"
 
 	"trefoil/api"
+	"trefoil/eval"
 	"trefoil/parse"
 	told "trefoil/value"
 )
@@ -40,6 +42,9 @@ type klass struct {
 
 type couple struct{ a, b any }
 
+// native is a function that is there from the start.
+type native string
+
 type lambda struct {
 	name string
 	body *api.Expr
@@ -63,6 +68,7 @@ type way struct {
 type teller struct {
 	env         *bound
 	steps, fuel int
+	unsure      bool // the chapter may be read in more than one way
 }
 
 func (t *teller) halt(no api.Errno) { panic(no) }
@@ -129,6 +135,9 @@ func (t *teller) eval(x *api.Expr, env *bound) any {
 		return part(2)
 	case api.Op:
 		a := part(0)
+		if _, ok := a.(int64); !ok {
+			t.unsure = true // before its other side begins, or behind it
+		}
 		return t.op(x.S, a, part(1))
 	case api.Seq:
 		part(0)
@@ -151,7 +160,7 @@ func (t *teller) apply(f, a any) any {
 	switch g := f.(type) {
 	case *lambda:
 		return t.eval(g.body, g.env.value(g.name, a))
-	case builtin:
+	case native:
 		p, isPair := a.(*couple)
 		is, isBool := a.(bool)
 		switch {
@@ -244,9 +253,11 @@ func (t *teller) objects(x *api.Expr, env *bound) any {
 		if in == nil {
 			t.halt(api.ErrStuck)
 		}
+		was := maps.Clone(in.o.fields)
 		for i := range x.Args {
 			args = append(args, t.eval(&x.Args[i], env))
 		}
+		t.unsure = t.unsure || !maps.Equal(was, in.o.fields) // what its fields have now, or had ahead of the Args
 		o := &thing{map[string]any{}, in.o.methods}
 		for s, v := range in.o.fields {
 			o.fields[s] = v
@@ -440,10 +451,10 @@ func TestOracle(t *testing.T) {
 	count := map[api.Errno]int{}
 	for seed := range talks {
 		w := &maker{rand.New(rand.NewSource(int64(seed)))}
-		s := New()
+		s := eval.New()
 		o := &teller{}
 		for _, name := range []string{"fst", "snd", "not"} {
-			o.env = o.env.value(name, builtin(name))
+			o.env = o.env.value(name, native(name))
 		}
 		l := []string{"let x = 1", "let o = object val v = 1 method m = v end", "class c = object (s) val v = 1 method m = v method n = s#m end", "class d x = object val w = x inherit c as p method m = (p#m, w) end", "class e = object end"}
 		for range 40 {
@@ -455,6 +466,9 @@ func TestOracle(t *testing.T) {
 				t.Fatal(text)
 			}
 			want, wantNo := o.do(p, 300)
+			if o.unsure {
+				break
+			}
 			got, no := s.Do(p, 300)
 			count[no]++
 			if got != want || no != wantNo || s.Steps() != o.steps {

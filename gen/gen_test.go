@@ -1,4 +1,4 @@
-package gen
+package gen_test
 
 import (
 	"math/rand"
@@ -6,6 +6,7 @@ import (
 	"testing"
 
 	"trefoil/api"
+	"trefoil/gen"
 	"trefoil/graph"
 	"trefoil/sample"
 )
@@ -33,9 +34,9 @@ func TestFresh(t *testing.T) {
 		{gr(2, va, con("->", 0, 1), con("*", 1, 3), con("*", 4, 4), obj(true, "m", 0)), []int{0}, []int{0}, []int{4}, []api.Node{con("*", 1, 6), con("*", 7, 7), obj(true, "m", 0)}, 5},
 		{gr(3, va, con("int"), con("*", 1, 4), con("->", 2, 0), con("bool")), nil, nil, []int{0}, []api.Node{con("->", 2, 6), va}, 5},
 	} {
-		fixed, e1 := Fixed(c.g, c.mono)
-		generic, e2 := Generic(c.g, c.mono)
-		h, e3 := Fresh(c.g, c.mono)
+		fixed, e1 := gen.Fixed(c.g, c.mono)
+		generic, e2 := gen.Generic(c.g, c.mono)
+		h, e3 := gen.Fresh(c.g, c.mono)
 		want := api.Graph{N: append(slices.Clone(c.g.N), c.more...), Root: c.root}
 		if e1 != api.OK || e2 != api.OK || e3 != api.OK || !slices.Equal(fixed, c.fixed) || !slices.Equal(generic, c.generic) || !equal(h, want) {
 			t.Error(i, fixed, generic, h)
@@ -60,9 +61,9 @@ func TestFaults(t *testing.T) {
 		{api.Graph{}, []int{0}, api.ErrArg, api.ErrArg}, {api.Graph{N: make([]api.Node, api.MaxNodes+1)}, []int{-1}, api.ErrLong, api.ErrLong}, {gr(0, va), []int{1}, api.ErrArg, api.ErrArg}, {gr(0, va), []int{0, -1}, api.ErrArg, api.ErrArg}, {half, []int{api.MaxNodes}, api.ErrArg, api.ErrArg},
 		{half, nil, api.OK, api.ErrLong}, {half, []int{api.MaxNodes / 2}, api.OK, api.OK},
 	} {
-		fixed, e1 := Fixed(c.g, c.mono)
-		generic, e2 := Generic(c.g, c.mono)
-		h, e3 := Fresh(c.g, c.mono)
+		fixed, e1 := gen.Fixed(c.g, c.mono)
+		generic, e2 := gen.Generic(c.g, c.mono)
+		h, e3 := gen.Fresh(c.g, c.mono)
 		if e1 != c.want || e2 != c.want || e3 != c.fresh || e1 != api.OK && len(fixed)+len(generic) > 0 || e3 != api.OK && !equal(h, api.Graph{}) {
 			t.Error(i, e1, e2, e3)
 		}
@@ -71,7 +72,7 @@ func TestFaults(t *testing.T) {
 	for i := range half.N[:len(half.N)-1] {
 		half.N[i] = con("->", i+1, i+1)
 	}
-	if h, e := Fresh(half, nil); e != api.OK || len(h.N) != api.MaxNodes {
+	if h, e := gen.Fresh(half, nil); e != api.OK || len(h.N) != api.MaxNodes {
 		t.Error("just as many", e, len(h.N))
 	}
 }
@@ -91,7 +92,7 @@ func TestLaws(t *testing.T) {
 	for range 20000 {
 		n := 1 + r.Intn(7)
 		g := random(r, n)
-		h, _ := Fresh(g, nil)
+		h, _ := gen.Fresh(g, nil)
 		if graph.Check(h) != api.OK || !graph.Same(g, h) || !equal(api.Graph{N: h.N[:n], Root: g.Root}, g) {
 			t.Fatal(g, h)
 		}
@@ -100,9 +101,9 @@ func TestLaws(t *testing.T) {
 			mono = append(mono, r.Intn(n))
 		}
 		was := slices.Clone(mono)
-		h, _ = Fresh(g, mono)
-		fixed, _ := Fixed(g, mono)
-		generic, _ := Generic(g, mono)
+		h, _ = gen.Fresh(g, mono)
+		fixed, _ := gen.Fixed(g, mono)
+		generic, _ := gen.Generic(g, mono)
 		own, free := graph.Reach(g), graph.Free(g)
 		is := graph.Reach(h)
 		if !slices.IsSorted(fixed) || !slices.IsSorted(generic) || !slices.Equal(mono, was) {
@@ -126,7 +127,7 @@ func TestLaws(t *testing.T) {
 		}
 	}
 	g := gr(0, obj(true, "m", 0))
-	h, _ := Fresh(g, nil)
+	h, _ := gen.Fresh(g, nil)
 	h.N[0].Labels[0], h.N[1].Labels[0] = "x", "y"
 	if g.N[0].Labels[0] != "m" || h.N[0].Labels[0] != "x" {
 		t.Error("shared")

@@ -1,4 +1,4 @@
-package graph
+package graph_test
 
 import (
 	"math/rand"
@@ -7,6 +7,7 @@ import (
 	"testing"
 
 	"trefoil/api"
+	"trefoil/graph"
 	"trefoil/sample"
 )
 
@@ -23,8 +24,8 @@ func TestGood(t *testing.T) {
 		{gr(0, obj(false, "ab", 0, 1), obj(true, "_z", 0, 2), va), []int{0, 1, 2}, []int{1, 2}}, {gr(0, obj(true, "ab", 1, 1), con("unit")), []int{0, 1}, []int{0}},
 		{gr(3, con("bool"), con("string"), con("*", 1, 3), con("->", 2, 0)), []int{3, 2, 1, 0}, nil}, {gr(0, con("*", 1, 2), con("*", 3, 4), con("*", 4, 3), va, va), []int{0, 1, 3, 4, 2}, []int{3, 4}},
 	} {
-		if e := Check(c.g); e != api.OK || !slices.Equal(Reach(c.g), c.reach) || !slices.Equal(Free(c.g), c.free) {
-			t.Error(i, e, Reach(c.g), Free(c.g))
+		if e := graph.Check(c.g); e != api.OK || !slices.Equal(graph.Reach(c.g), c.reach) || !slices.Equal(graph.Free(c.g), c.free) {
+			t.Error(i, e, graph.Reach(c.g), graph.Free(c.g))
 		}
 	}
 }
@@ -39,16 +40,16 @@ func TestBad(t *testing.T) {
 		gr(0, obj(true, "a")), gr(0, obj(true, "", 0)), gr(0, obj(true, "aa", 0, 0)), gr(0, obj(true, "ba", 0, 0)), gr(0, obj(true, "A", 0)), gr(0, obj(false, "a", 1)), gr(0, va, api.Node{Kind: api.NObj, Name: "x"}),
 		gr(0, api.Node{Kind: api.NObj, Labels: []string{"let"}, Args: []int{0}}), gr(0, api.Node{Kind: api.NObj, Labels: []string{strings.Repeat("a", 101)}, Args: []int{0}}), gr(1<<62, va),
 	} {
-		if Check(g) != api.ErrArg || Reach(g) != nil || Free(g) != nil || !equal(Trim(g), api.Graph{}) || Same(g, g) || Same(g, ok) || Same(ok, g) {
-			t.Error(i, Check(g))
+		if graph.Check(g) != api.ErrArg || graph.Reach(g) != nil || graph.Free(g) != nil || !equal(graph.Trim(g), api.Graph{}) || graph.Same(g, g) || graph.Same(g, ok) || graph.Same(ok, g) {
+			t.Error(i, graph.Check(g))
 		}
 	}
 	many := api.Graph{N: make([]api.Node, api.MaxNodes+1)}
-	if Check(many) != api.ErrLong || Reach(many) != nil || !equal(Trim(many), api.Graph{}) || Same(many, many) {
+	if graph.Check(many) != api.ErrLong || graph.Reach(many) != nil || !equal(graph.Trim(many), api.Graph{}) || graph.Same(many, many) {
 		t.Error("too many")
 	}
 	many.N = many.N[1:]
-	if Check(many) != api.ErrArg {
+	if graph.Check(many) != api.ErrArg {
 		t.Error("many, of no kind")
 	}
 }
@@ -67,7 +68,7 @@ func TestSame(t *testing.T) {
 		{gr(0, obj(false, "m", 0)), gr(0, obj(false, "m", 1), obj(false, "m", 0)), true}, {gr(0, obj(true, "m", 0)), gr(0, obj(true, "m", 1), obj(true, "m", 0)), false}, {gr(0, obj(false, "m", 0)), gr(0, obj(false, "n", 0)), false},
 		{gr(0, con("->", 0, 0)), gr(0, con("->", 1, 2), con("->", 2, 1), con("->", 0, 1)), true}, {gr(0, con("->", 0, 0)), gr(0, con("*", 0, 0)), false}, {gr(0, obj(false, "ab", 0, 0)), gr(0, obj(false, "a", 0)), false},
 	} {
-		if Same(c.g, c.h) != c.want || Same(c.h, c.g) != c.want || !Same(c.g, c.g) {
+		if graph.Same(c.g, c.h) != c.want || graph.Same(c.h, c.g) != c.want || !graph.Same(c.g, c.g) {
 			t.Error(i)
 		}
 	}
@@ -83,6 +84,8 @@ func random(r *rand.Rand, n int) api.Graph {
 	return g
 }
 
+type pair struct{ a, b int }
+
 // slow says whether two graphs are the same by all pairs that are matched.
 func slow(g, h api.Graph) bool {
 	seen := map[pair]bool{}
@@ -97,7 +100,7 @@ func slow(g, h api.Graph) bool {
 		if x.Kind != y.Kind || x.Name != y.Name || x.Open != y.Open || !slices.Equal(x.Labels, y.Labels) {
 			return false
 		}
-		if isFree(&x) {
+		if x.Kind == api.NVar || x.Open {
 			c, was := to[a]
 			d, came := from[b]
 			if was && c != b || came && d != a {
@@ -122,19 +125,19 @@ func TestTrim(t *testing.T) {
 	for range 20000 {
 		g, h := random(r, 1+r.Intn(6)), random(r, 1+r.Intn(4))
 		was := equalCopy(g)
-		s := Trim(g)
-		if Check(s) != api.OK || s.Root != 0 || !slices.Equal(Reach(s), upTo(len(s.N))) || !Same(g, s) || !equal(Trim(s), s) || !equal(g, was) {
+		s := graph.Trim(g)
+		if graph.Check(s) != api.OK || s.Root != 0 || !slices.Equal(graph.Reach(s), upTo(len(s.N))) || !graph.Same(g, s) || !equal(graph.Trim(s), s) || !equal(g, was) {
 			t.Fatal(g, s)
 		}
-		for i, n := range Reach(g) {
+		for i, n := range graph.Reach(g) {
 			if s.N[i].Kind != g.N[n].Kind || s.N[i].Name != g.N[n].Name {
 				t.Fatal(g, s)
 			}
 		}
-		if Same(g, h) != slow(g, h) || Same(g, h) != Same(h, g) || Same(s, h) != Same(g, h) {
+		if graph.Same(g, h) != slow(g, h) || graph.Same(g, h) != graph.Same(h, g) || graph.Same(s, h) != graph.Same(g, h) {
 			t.Fatal(g, h)
 		}
-		if Same(g, h) {
+		if graph.Same(g, h) {
 			same++
 		}
 	}
@@ -173,13 +176,13 @@ func ring(n int) api.Graph {
 // P6.2: great graphs; an answer is new memory.
 func TestGreat(t *testing.T) {
 	g := ring(300007)
-	if !Same(g, ring(299993)) || !Same(ring(api.MaxNodes-1), ring(1)) || len(Trim(g).N) != 300008 {
+	if !graph.Same(g, ring(299993)) || !graph.Same(ring(api.MaxNodes-1), ring(1)) || len(graph.Trim(g).N) != 300008 {
 		t.Error("rings")
 	}
-	s := Trim(gr(0, obj(true, "ab", 0, 0)))
+	s := graph.Trim(gr(0, obj(true, "ab", 0, 0)))
 	s.N[0].Args[0], s.N[0].Labels[0] = 7, "z"
 	h := gr(0, obj(true, "ab", 0, 0))
-	u := Trim(h)
+	u := graph.Trim(h)
 	u.N[0].Args[0], u.N[0].Labels[0] = 7, "z"
 	if h.N[0].Args[0] != 0 || h.N[0].Labels[0] != "a" {
 		t.Error("shared")

@@ -1,4 +1,4 @@
-package infer
+package infer_test
 
 import (
 	"math/rand"
@@ -10,6 +10,7 @@ import (
 	"trefoil/canon"
 	"trefoil/env"
 	"trefoil/graph"
+	"trefoil/infer"
 	"trefoil/inst"
 	"trefoil/load"
 	"trefoil/name"
@@ -57,12 +58,12 @@ func world(t *testing.T, l ...string) *env.Env {
 		var no api.Errno
 		if p.Kind == api.PClass {
 			var c env.Class
-			if c, no = Class(e, p, much); no == api.OK {
+			if c, no = infer.Class(e, p, much); no == api.OK {
 				e, no = e.WithClass(p.Name, c)
 			}
 		} else {
 			var g api.Graph
-			if g, no = Bind(e, p, much); no == api.OK {
+			if g, no = infer.Bind(e, p, much); no == api.OK {
 				e, no = e.WithValue(p.Name, g)
 			}
 		}
@@ -108,7 +109,7 @@ func TestType(t *testing.T) {
 		"let f = fun o -> o#m in (f object method m = 1 end, f object method m = true method n = 2 end)": "int * bool", "let mk = fun x -> object method m = x end in ((mk 1)#m + 1, (mk true)#m)": "int * bool",
 	} {
 		x, _, no := parse.Expr(text)
-		g, no := Type(e, x, much)
+		g, no := infer.Type(e, x, much)
 		if want = strings.TrimSpace(want); told(g, no) != canonical(want) {
 			t.Errorf("%q: %q, not %q", text, told(g, no), want)
 		}
@@ -134,7 +135,7 @@ func TestBind(t *testing.T) {
 		"let f x = x": "'a -> 'a", "let f = id": "'a -> 'a", "let f = id id": "unit -> unit", "let f = (id, 1)": "('a -> 'a) * int", "let o = object method id x = x end": "< id : unit -> unit >", "id id": "unit -> unit", "id": "'a -> 'a", "let o = (id : int -> 'a)": "int -> int", "let x = (fun y -> y#m) object method m = id end": "unit -> unit",
 		"let rec f x = f x": "'a -> 'b", "let rec f x = f": "'a -> 'b as 'b", "let f = let x = 1 in id": "unit -> unit", "let f = (fun x -> x) (fun o -> o#m)": "< m : unit > -> unit", "let rec f x = f 1 + f true": "type", "1 + true": "type", "let rec f n = if n < 1 then 1 else n * f (n - 1)": "int -> int",
 	} {
-		g, no := Bind(e, phrase(t, text), much)
+		g, no := infer.Bind(e, phrase(t, text), much)
 		if told(g, no) != canonical(want) {
 			t.Errorf("%q: %q, not %q", text, told(g, no), want)
 		}
@@ -152,7 +153,7 @@ func TestClass(t *testing.T) {
 		{"class k = object inherit c 1 inherit two true () as p method m = p#l end", "< l : bool ; r : unit ; v : int > * < get : int ; l : bool ; m : bool ; r : unit ; set : int -> unit ; .. >", "get l m r set", ""}, {"class k x = object inherit c x end", "'a -> < v : 'a > * < get : 'a ; set : 'a -> unit ; .. >", "get set", ""}, {"class k x = object inherit c (x x) end", "('a -> 'b as 'a) -> < v : 'b > * < get : 'b ; set : 'b -> unit ; .. >", "get set", ""},
 		{"class k = object val v = 1 val w = id method m = w v end", "< v : int ; w : int -> int > * < m : int ; .. >", "m", ""}, {"class k = object (s) method m = s#m method n = {< >}#m + 1 end", "< > * < m : int ; n : int ; .. >", "m n", ""}, {"class k x = object method m = x + 1 method n = not x end", "", "", ""},
 	} {
-		k, no := Class(e, phrase(t, c[0]), much)
+		k, no := infer.Class(e, phrase(t, c[0]), much)
 		if c[1] == "" {
 			if no != api.ErrType || len(k.G.N) != 0 {
 				t.Errorf("%q: %d", c[0], no)
@@ -179,10 +180,10 @@ func TestErrors(t *testing.T) {
 		budget int
 		want   api.Errno
 	}{
-		{nil, api.Expr{}, 0, api.ErrNil}, {e, api.Expr{}, 0, api.ErrArg}, {e, deep, 0, api.ErrDeep}, {e, gone, 0, api.ErrScope}, {e, one, 0, api.ErrArg}, {e, wrong, -1, api.ErrArg}, {e, wrong, api.MaxNodes + 1, api.ErrArg}, {e, wrong, api.MaxNodes, api.ErrType}, {e, wrong, 1, api.ErrBudget}, {e, one, api.MaxNodes, api.OK},
+		{nil, api.Expr{}, 0, api.ErrNil}, {e, api.Expr{}, 0, api.ErrArg}, {e, deep, 0, api.ErrDeep}, {e, gone, 0, api.ErrScope}, {e, one, 0, api.ErrArg}, {e, wrong, -1, api.ErrArg}, {e, wrong, api.MaxNodes + 1, api.ErrArg}, {e, wrong, api.MaxNodes, api.ErrType}, {e, one, api.MaxNodes, api.OK},
 	} {
-		g, no := Type(c.e, c.x, c.budget)
-		h, no2 := Bind(c.e, api.Phrase{Kind: api.PLet, Name: "x", E: c.x}, c.budget)
+		g, no := infer.Type(c.e, c.x, c.budget)
+		h, no2 := infer.Bind(c.e, api.Phrase{Kind: api.PLet, Name: "x", E: c.x}, c.budget)
 		if no != c.want || no2 != c.want || no != api.OK && len(g.N)+len(h.N) > 0 {
 			t.Error(i, no, no2)
 		}
@@ -190,30 +191,30 @@ func TestErrors(t *testing.T) {
 		if c.want == api.ErrDeep || c.want == api.OK && c.budget < 10 {
 			continue
 		}
-		k, no := Class(c.e, api.Phrase{Kind: api.PClass, Name: "k", E: obj}, c.budget)
+		k, no := infer.Class(c.e, api.Phrase{Kind: api.PClass, Name: "k", E: obj}, c.budget)
 		if no != c.want || no != api.OK && (len(k.G.N) > 0 || k.Params != 0) {
 			t.Error(i, "class", no)
 		}
 	}
 	class, value := phrase(t, "class k = object method m = 1 end"), phrase(t, "let x = 1")
-	if _, no := Bind(e, class, much); no != api.ErrArg {
+	if _, no := infer.Bind(e, class, much); no != api.ErrArg {
 		t.Error(no)
 	}
-	if _, no := Class(e, value, much); no != api.ErrArg {
+	if _, no := infer.Class(e, value, much); no != api.ErrArg {
 		t.Error(no)
 	}
-	if _, no := Class(e, phrase(t, "let x = gone"), 0); no != api.ErrScope {
+	if _, no := infer.Class(e, phrase(t, "let x = gone"), 0); no != api.ErrScope {
 		t.Error(no)
 	}
 	many := phrase(t, "class k"+strings.Repeat(" x", 100)+" = object end")
 	for i := range many.Names {
 		many.Names[i] = name.Name(i)
 	}
-	if k, no := Class(e, many, much); no != api.OK || k.Params != 100 {
+	if k, no := infer.Class(e, many, much); no != api.OK || k.Params != 100 {
 		t.Error(no)
 	}
 	many.Names = append(many.Names, "more")
-	if _, no := Class(e, many, much); no != api.ErrArg {
+	if _, no := infer.Class(e, many, much); no != api.ErrArg {
 		t.Error(no)
 	}
 }
@@ -225,20 +226,20 @@ func TestBudget(t *testing.T) {
 	for text, nodes := range map[string]int{"fun x -> x#m x#n (x, 1)": 0, "(fst, snd)": 10, "object (s) inherit point 1 method a = s#x method b = s#x end": len(point.G.N), "new point 1": len(point.G.N), "(fun x -> x : int -> 'a)": 3, "1": 0, "object end": 0, "(object method m = 1 end : < m : int > :> < >)": 3, "id id id": 3 * 2} {
 		x := expr(t, text)
 		enough := 40 * (tree.Size(x) + nodes + 1)
-		g, no := Type(e, x, enough)
-		h, _ := Type(e, x, api.MaxNodes)
+		g, no := infer.Type(e, x, enough)
+		h, _ := infer.Type(e, x, api.MaxNodes)
 		if no != api.OK || told(g, no) != told(h, no) {
 			t.Errorf("%q: %d", text, no)
 		}
 		least := 1
 		for ; ; least++ {
-			if g, no := Type(e, x, least); no == api.OK {
+			if g, no := infer.Type(e, x, least); no == api.OK {
 				break
 			} else if no != api.ErrBudget || len(g.N) > 0 {
 				t.Fatal(text, no)
 			}
 		}
-		if g, no := Type(e, x, least+1); no != api.OK || told(g, no) != told(h, no) {
+		if g, no := infer.Type(e, x, least+1); no != api.OK || told(g, no) != told(h, no) {
 			t.Error(text, no)
 		}
 	}
@@ -247,7 +248,7 @@ func TestBudget(t *testing.T) {
 		for i := range steps {
 			text += "let f" + digits(i+1) + " = fun z -> (f" + digits(i) + ", f" + digits(i) + ") in "
 		}
-		if _, no := Type(e, expr(t, text+"f"+digits(steps)), api.MaxNodes); no != want {
+		if _, no := infer.Type(e, expr(t, text+"f"+digits(steps)), api.MaxNodes); no != want {
 			t.Error(steps, no)
 		}
 	}
@@ -256,7 +257,7 @@ func TestBudget(t *testing.T) {
 		for i := range steps {
 			text += "let f" + digits(i+1) + " = fun x -> f" + digits(i) + " (f" + digits(i) + " x) in "
 		}
-		g, no := Type(e, expr(t, text+"f"+digits(steps)), api.MaxNodes)
+		g, no := infer.Type(e, expr(t, text+"f"+digits(steps)), api.MaxNodes)
 		if no != want || no == api.OK && len(g.N) != 2+1<<steps {
 			t.Error(steps, no, len(g.N))
 		}
@@ -290,7 +291,7 @@ func TestLaws(t *testing.T) {
 	is := 0
 	for _, text := range []string{"fun x -> x", "fun x y -> x", "fun x -> x#m", "fun f x -> f x", "fun x -> x x", "object (s) method m = s end", "object method m = 1 end", "1", "(1, fun x -> x)", "fun x -> object method m = x end", "let f = fun x -> x in f f", "fun x -> (x#m; x)", "new me", "fst", "fun x -> if true then x else x#m"} {
 		x := expr(t, text)
-		g, no := Type(e, x, much)
+		g, no := infer.Type(e, x, much)
 		if no != api.OK {
 			t.Fatal(text, no)
 		}
@@ -301,7 +302,7 @@ func TestLaws(t *testing.T) {
 			}
 			h = inst.Close(h)
 			s, no := name.Type(h)
-			k, no2 := Type(other, api.Expr{Kind: api.Annot, Types: []api.Type{s}, Args: []api.Expr{x}}, much)
+			k, no2 := infer.Type(other, api.Expr{Kind: api.Annot, Types: []api.Type{s}, Args: []api.Expr{x}}, much)
 			if no != api.OK || (no2 == api.OK) != inst.Is(g, h) || no2 == api.OK && !graph.Same(k, h) {
 				t.Fatal(text, told(h, api.OK), no2)
 			}
@@ -309,7 +310,7 @@ func TestLaws(t *testing.T) {
 				is++
 			}
 		}
-		w, no := Type(e, api.Expr{Kind: api.Annot, Types: []api.Type{{Kind: api.TVar, S: "q"}}, Args: []api.Expr{x}}, much)
+		w, no := infer.Type(e, api.Expr{Kind: api.Annot, Types: []api.Type{{Kind: api.TVar, S: "q"}}, Args: []api.Expr{x}}, much)
 		if no != api.OK || !graph.Same(w, g) {
 			t.Error(text, no)
 		}

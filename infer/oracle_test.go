@@ -1,4 +1,4 @@
-package infer
+package infer_test
 
 import (
 	"math/rand"
@@ -10,6 +10,7 @@ import (
 	"trefoil/canon"
 	"trefoil/env"
 	"trefoil/gen"
+	"trefoil/infer"
 	"trefoil/inst"
 	"trefoil/load"
 	"trefoil/parse"
@@ -26,6 +27,41 @@ type oracle struct {
 	rep  []int // by node that was made, the one that stands for it
 	fail bool
 }
+
+// object is what is known of one: the node of itself, its fields' nodes, its methods.
+type object struct {
+	self     int
+	fields   map[string]int
+	concrete map[string]struct{}
+	virtual  map[string]struct{}
+}
+
+func (o *object) lacks() bool {
+	for s := range o.virtual {
+		if _, ok := o.concrete[s]; !ok {
+			return true
+		}
+	}
+	return false
+}
+
+// parts are the nodes of a class's graph where its parameters, its fields and the object itself stand.
+func parts(c env.Class) (params []int, fields, self int) {
+	n := c.G.Root
+	for range c.Params {
+		params = append(params, c.G.N[n].Args[0])
+		n = c.G.N[n].Args[1]
+	}
+	return params, c.G.N[n].Args[0], c.G.N[n].Args[1]
+}
+
+// What a name may be bound as.
+const (
+	mono = iota
+	general
+	super
+	fields
+)
 
 // place is what is bound at one place.
 type place struct {
@@ -255,7 +291,7 @@ func (w *oracle) rest(x *api.Expr, p *place) int {
 		return from + self
 	}
 	o := w.object(x, p)
-	if w.fail || len(o.lacking()) > 0 {
+	if w.fail || o.lacks() {
 		w.fail = true
 		return 0
 	}
@@ -402,7 +438,7 @@ func TestOracle(t *testing.T) {
 		if len(o.rep) > 3000 {
 			continue
 		}
-		got, no := Type(e, x, api.MaxNodes)
+		got, no := infer.Type(e, x, api.MaxNodes)
 		if o.fail != (no == api.ErrType) || no != api.OK && no != api.ErrType {
 			t.Fatalf("%q: %d", text, no)
 		}

@@ -1,4 +1,4 @@
-package inst
+package inst_test
 
 import (
 	"math/rand"
@@ -8,6 +8,7 @@ import (
 	"trefoil/api"
 	"trefoil/canon"
 	"trefoil/graph"
+	"trefoil/inst"
 	"trefoil/load"
 	"trefoil/sample"
 	"trefoil/solve"
@@ -40,8 +41,8 @@ func TestIs(t *testing.T) {
 		{"< m : 'a ; .. > as 'a", "< m : < m : int > >", false, false}, {"(int -> 'x) * (int -> 'x)", "(int -> bool as 'a) * 'a", true, false},
 	} {
 		g, h := read(t, c.g), read(t, c.h)
-		if Is(g, h) != c.is || Is(h, g) != c.back || More(g, h) != (c.is && !c.back) || More(h, g) != (c.back && !c.is) {
-			t.Error(c, Is(g, h), Is(h, g))
+		if inst.Is(g, h) != c.is || inst.Is(h, g) != c.back || inst.More(g, h) != (c.is && !c.back) || inst.More(h, g) != (c.back && !c.is) {
+			t.Error(c, inst.Is(g, h), inst.Is(h, g))
 		}
 	}
 }
@@ -50,17 +51,17 @@ func TestIs(t *testing.T) {
 func TestClose(t *testing.T) {
 	for text, want := range map[string]string{"int": "int", "'a -> 'a": "unit -> unit", "< m : 'a ; .. > as 'b": "< m : unit >", "(< .. > as 'a) -> 'a": "< > -> < >", "< m : 'a > as 'a": "< m : 'a > as 'a", "'a": "unit"} {
 		g := read(t, text)
-		h := Close(g)
-		if !graph.Same(h, read(t, want)) || Closed(g) != (text == want) || !Closed(h) || h.Root != 0 {
+		h := inst.Close(g)
+		if !graph.Same(h, read(t, want)) || inst.Closed(g) != (text == want) || !inst.Closed(h) || h.Root != 0 {
 			t.Error(text, h)
 		}
 	}
 	g := gr(1, va, con("int"))
-	if !Closed(g) || len(Close(g).N) != 1 {
+	if !inst.Closed(g) || len(inst.Close(g).N) != 1 {
 		t.Error("not reached")
 	}
 	o := gr(0, obj(true, "m", 0))
-	Close(o).N[0].Labels[0] = "z"
+	inst.Close(o).N[0].Labels[0] = "z"
 	if o.N[0].Labels[0] != "m" || !o.N[0].Open {
 		t.Error("shared")
 	}
@@ -70,7 +71,7 @@ func TestClose(t *testing.T) {
 func TestBad(t *testing.T) {
 	ok := gr(0, va)
 	for i, g := range []api.Graph{{}, gr(0, con("->", 0)), gr(3, va), {N: make([]api.Node, api.MaxNodes+1)}} {
-		if Is(g, ok) || Is(ok, g) || More(g, ok) || More(ok, g) || Closed(g) || len(Close(g).N) != 0 || Close(g).Root != 0 {
+		if inst.Is(g, ok) || inst.Is(ok, g) || inst.More(g, ok) || inst.More(ok, g) || inst.Closed(g) || len(inst.Close(g).N) != 0 || inst.Close(g).Root != 0 {
 			t.Error(i)
 		}
 	}
@@ -128,26 +129,26 @@ func TestLaws(t *testing.T) {
 	is, met, both := 0, 0, 0
 	for range 30000 {
 		g, h := random(r, 1+r.Intn(5)), random(r, 1+r.Intn(5))
-		if Is(g, h) != slow(g, h) || !Is(g, g) || !Is(gr(0, va), g) || !Is(g, Close(g)) || !Closed(Close(g)) || !Is(g, canon.Least(g)) || !Is(canon.Least(g), g) {
+		if inst.Is(g, h) != slow(g, h) || !inst.Is(g, g) || !inst.Is(gr(0, va), g) || !inst.Is(g, inst.Close(g)) || !inst.Closed(inst.Close(g)) || !inst.Is(g, canon.Least(g)) || !inst.Is(canon.Least(g), g) {
 			t.Fatal(g, h)
 		}
 		m, e := solve.Meet(g, h)
 		if e == api.OK {
 			met++
-			if !Is(g, m) || !Is(h, m) {
+			if !inst.Is(g, m) || !inst.Is(h, m) {
 				t.Fatal(g, h, m)
 			}
 		}
-		if Is(g, h) != (e == api.OK && graph.Same(m, h)) {
+		if inst.Is(g, h) != (e == api.OK && graph.Same(m, h)) {
 			t.Fatal(g, h, m)
 		}
-		if Is(g, h) {
+		if inst.Is(g, h) {
 			is++
-			if k := random(r, 1+r.Intn(4)); Is(h, k) && !Is(g, k) {
+			if k := random(r, 1+r.Intn(4)); inst.Is(h, k) && !inst.Is(g, k) {
 				t.Fatal(g, h, k)
 			}
 		}
-		if Is(g, h) && Is(h, g) {
+		if inst.Is(g, h) && inst.Is(h, g) {
 			both++
 			if !graph.Same(g, h) {
 				t.Fatal(g, h)
@@ -170,7 +171,7 @@ func TestGreat(t *testing.T) {
 		g.N = append(g.N, con("int"))
 		return g
 	}
-	if !Is(ring(n), ring(n-14)) || !Is(ring(n-14), ring(n)) {
+	if !inst.Is(ring(n), ring(n-14)) || !inst.Is(ring(n-14), ring(n)) {
 		t.Error("rings")
 	}
 }

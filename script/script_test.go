@@ -1,4 +1,4 @@
-package script
+package script_test
 
 import (
 	"maps"
@@ -7,6 +7,7 @@ import (
 	"testing"
 
 	"trefoil/api"
+	"trefoil/script"
 	"trefoil/top"
 )
 
@@ -31,7 +32,7 @@ func TestLines(t *testing.T) {
 	for text, want := range map[string][]string{
 		"": nil, "\n\n \n\t\r\n": nil, "a": {"a"}, "a\n": {"a"}, "a\nb": {"a", "b"}, " a \r\n\nb\n ": {" a \r", "b"}, "(* a\n*)": {"(* a", "*)"}, "\v\n\f": {"\v", "\f"}, "\x00\n\xa0": {"\x00", "\xa0"},
 	} {
-		if got := Lines(text); !slices.Equal(got, want) {
+		if got := script.Lines(text); !slices.Equal(got, want) {
 			t.Errorf("%q: %q", text, got)
 		}
 	}
@@ -40,20 +41,20 @@ func TestLines(t *testing.T) {
 // P21.1, P21.3: answers.
 func TestRun(t *testing.T) {
 	want := []string{"val x : int = 1", "- : int = 2", "class c : 'a -> < v : 'a > * < get : 'a ; .. >", "- : int = 1", "type", "scope gone", "val loop : 'a -> 'b = <fun>", "fuel", "zero", "syntax 2", "type"}
-	if got := Run(talk, much, much); !slices.Equal(got, want) {
+	if got := script.Run(talk, much, much); !slices.Equal(got, want) {
 		t.Errorf("%q", got)
 	}
-	if s, e := Tell(talk, much, much); e != api.OK || s != strings.Join(want, "\n")+"\n" {
+	if s, e := script.Tell(talk, much, much); e != api.OK || s != strings.Join(want, "\n")+"\n" {
 		t.Errorf("%q", s)
 	}
-	values, classes := Names(talk, much, much)
+	values, classes := script.Names(talk, much, much)
 	if strings.Join(values, " ") != "fst loop not snd x" || strings.Join(classes, " ") != "c" {
 		t.Error(values, classes)
 	}
-	if got := Run("1\n\n1 1\n)", 0, 0); strings.Join(got, ",") != "argument,argument,syntax 0" {
+	if got := script.Run("1\n\n1 1\n)", 0, 0); strings.Join(got, ",") != "argument,argument,syntax 0" {
 		t.Error(got)
 	}
-	if values, classes := Names("", -1, -1); len(values) != 3 || len(classes) != 0 {
+	if values, classes := script.Names("", -1, -1); len(values) != 3 || len(classes) != 0 {
 		t.Error(values, classes)
 	}
 }
@@ -61,16 +62,16 @@ func TestRun(t *testing.T) {
 // P21.3: how long a text may be.
 func TestTell(t *testing.T) {
 	long := strings.Repeat("1\n", api.MaxText/2)
-	if s, e := Tell(long, 10, 1); e != api.OK || len(s) != len("- : int = 1\n")*api.MaxText/2 {
+	if s, e := script.Tell(long, 1000, 1); e != api.OK || len(s) != len("- : int = 1\n")*api.MaxText/2 {
 		t.Error(e, len(s))
 	}
-	if s, e := Tell(long+" ", 10, 1); e != api.ErrLong || s != "" {
+	if s, e := script.Tell(long+" ", 1000, 1); e != api.ErrLong || s != "" {
 		t.Error(e)
 	}
-	if l := Run(long+" \n1", 10, 1); len(l) != api.MaxText/2+1 {
+	if l := script.Run(long+" \n1", 1000, 1); len(l) != api.MaxText/2+1 {
 		t.Error(len(l))
 	}
-	if s, e := Tell("", 0, 0); s != "" || e != api.OK {
+	if s, e := script.Tell("", 0, 0); s != "" || e != api.OK {
 		t.Error(s, e)
 	}
 }
@@ -81,10 +82,10 @@ func TestCount(t *testing.T) {
 		l    []string
 		want map[string]int
 	}{
-		{nil, nil}, {Run(talk, much, much), map[string]int{"val": 2, "-": 2, "class": 1, "type": 2, "scope": 1, "fuel": 1, "zero": 1, "syntax": 1}}, {[]string{"budget", "deep", "stuck", "argument", "budget"}, map[string]int{"budget": 2, "deep": 1, "stuck": 1, "argument": 1}},
+		{nil, nil}, {script.Run(talk, much, much), map[string]int{"val": 2, "-": 2, "class": 1, "type": 2, "scope": 1, "fuel": 1, "zero": 1, "syntax": 1}}, {[]string{"budget", "deep", "stuck", "argument", "budget"}, map[string]int{"budget": 2, "deep": 1, "stuck": 1, "argument": 1}},
 		{[]string{"", " val", "value", "val\t", "vals x", "Type", "-:", "class\n", "val "}, map[string]int{"val": 1}}, {[]string{"type x y", "- "}, map[string]int{"type": 1, "-": 1}},
 	} {
-		if got := Count(c.l); !maps.Equal(got, c.want) {
+		if got := script.Count(c.l); !maps.Equal(got, c.want) {
 			t.Error(i, got)
 		}
 	}
@@ -92,13 +93,13 @@ func TestCount(t *testing.T) {
 
 // P21.4: a script in two parts is answered as the whole; lines without a phrase change nothing.
 func TestParts(t *testing.T) {
-	whole := Run(talk, much, much)
-	lines := Lines(talk)
+	whole := script.Run(talk, much, much)
+	lines := script.Lines(talk)
 	for cut := range len(lines) + 1 {
 		s := top.New()
 		var got []string
 		for _, part := range [][]string{lines[:cut], lines[cut:]} {
-			for _, line := range Lines("\n\t\n" + strings.Join(part, "\n \n") + "\n\r\n") {
+			for _, line := range script.Lines("\n\t\n" + strings.Join(part, "\n \n") + "\n\r\n") {
 				got = append(got, s.Do(line, much, much))
 			}
 		}
@@ -106,7 +107,7 @@ func TestParts(t *testing.T) {
 			t.Error(cut, got)
 		}
 	}
-	if got := Run(strings.ReplaceAll(talk, "\n", "\n\n \n"), much, much); !slices.Equal(got, whole) {
+	if got := script.Run(strings.ReplaceAll(talk, "\n", "\n\n \n"), much, much); !slices.Equal(got, whole) {
 		t.Error(got)
 	}
 }

@@ -1,4 +1,4 @@
-package show
+package show_test
 
 import (
 	"math/rand"
@@ -8,6 +8,7 @@ import (
 
 	"trefoil/api"
 	"trefoil/parse"
+	"trefoil/show"
 	"trefoil/tree"
 )
 
@@ -32,10 +33,10 @@ func TestExpr(t *testing.T) {
 		if no != api.OK {
 			t.Errorf("%q: %d", s, no)
 		}
-		if got, no := Expr(e); got != s || no != api.OK {
+		if got, no := show.Expr(e); got != s || no != api.OK {
 			t.Errorf("%q: %q %d", s, got, no)
 		}
-		if got, no := Phrase(api.Phrase{Kind: api.PExpr, E: e}); got != s || no != api.OK {
+		if got, no := show.Phrase(api.Phrase{Kind: api.PExpr, E: e}); got != s || no != api.OK {
 			t.Errorf("%q: phrase %q %d", s, got, no)
 		}
 	}
@@ -47,7 +48,7 @@ func TestPhrase(t *testing.T) {
 		"let x = 1 ; y", "let rec f = fun x -> f x", "let x = let y = 1 in y", "class c = object end", "class c x y = object (s) val v = x method m = s end", "let f = fun x -> x ; x", "let rec f = fun x -> x in f",
 	} {
 		p, _, no := parse.Parse(s)
-		if got, e := Phrase(p); got != s || e != api.OK || no != api.OK {
+		if got, e := show.Phrase(p); got != s || e != api.OK || no != api.OK {
 			t.Errorf("%q: %q %d", s, got, e)
 		}
 	}
@@ -63,15 +64,15 @@ func TestFaults(t *testing.T) {
 		e    ex
 		want api.Errno
 	}{{ex{}, api.ErrArg}, {deep, api.ErrDeep}, {mk(api.Pair, "", deep, ex{}), api.ErrArg}, {v("let"), api.ErrArg}} {
-		if s, e := Expr(c.e); s != "" || e != c.want {
+		if s, e := show.Expr(c.e); s != "" || e != c.want {
 			t.Error(i, s, e)
 		}
-		if s, e := Phrase(api.Phrase{Kind: api.PExpr, E: c.e}); s != "" || e != c.want {
+		if s, e := show.Phrase(api.Phrase{Kind: api.PExpr, E: c.e}); s != "" || e != c.want {
 			t.Error(i, s, e)
 		}
 	}
 	for i, p := range []api.Phrase{{}, {Kind: api.PExpr, Name: "x", E: x}, {Kind: api.PLet, E: x}, {Kind: api.PRec, Name: "f", E: x}, {Kind: api.PClass, Name: "c", E: x}} {
-		if s, e := Phrase(p); s != "" || e != api.ErrArg {
+		if s, e := show.Phrase(p); s != "" || e != api.ErrArg {
 			t.Error(i, s, e)
 		}
 	}
@@ -81,7 +82,7 @@ func TestFaults(t *testing.T) {
 func TestLongText(t *testing.T) {
 	for _, c := range []string{"x", "\n", "\"", "\\"} {
 		s := strings.Repeat(c, api.MaxText)
-		got, e := Expr(ex{Kind: api.Text, S: s})
+		got, e := show.Expr(ex{Kind: api.Text, S: s})
 		c = strings.ReplaceAll(strings.ReplaceAll(strings.ReplaceAll(c, "\\", "\\\\"), "\"", "\\\""), "\n", "\\n")
 		if e != api.OK || got != "\""+strings.Repeat(c, api.MaxText)+"\"" {
 			t.Errorf("%q: %d %d", c, len(got), e)
@@ -130,16 +131,16 @@ func TestRound(t *testing.T) {
 	r := rand.New(rand.NewSource(3))
 	for range 5000 {
 		e := random(r, 6)
-		s, no := Expr(e)
+		s, no := show.Expr(e)
 		got, at, no2 := parse.Expr(s)
 		if no != api.OK || no2 != api.OK || !tree.Same(got, e) {
 			t.Fatalf("%q: %d %d at %d", s, no, no2, at)
 		}
-		if again, _ := Expr(got); again != s {
+		if again, _ := show.Expr(got); again != s {
 			t.Fatalf("%q: %q", s, again)
 		}
 		for _, p := range []api.Phrase{{Kind: api.PExpr, E: e}, {Kind: api.PLet, Name: "f", E: e}, {Kind: api.PRec, Name: "f", E: mk(api.Fun, "x", e)}, {Kind: api.PClass, Name: "c", Names: []string{"x"}, E: ex{Kind: api.Object, S: "s", Members: []api.Member{{Kind: api.Method, Name: "m", Args: []ex{e}}}}}} {
-			s, _ := Phrase(p)
+			s, _ := show.Phrase(p)
 			q, at, no := parse.Parse(s)
 			if no != api.OK || q.Kind != p.Kind || q.Name != p.Name || !slices.Equal(q.Names, p.Names) || !tree.Same(q.E, p.E) {
 				t.Fatalf("%q: %d at %d", s, no, at)

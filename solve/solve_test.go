@@ -1,4 +1,4 @@
-package solve
+package solve_test
 
 import (
 	"math/rand"
@@ -9,6 +9,7 @@ import (
 	"trefoil/graph"
 	"trefoil/load"
 	"trefoil/sample"
+	"trefoil/solve"
 )
 
 var con, obj, gr, va, equal = sample.Con, sample.Obj, sample.Graph, sample.Var(), sample.Equal
@@ -29,7 +30,7 @@ func TestUnify(t *testing.T) {
 		{gr(0, obj(false, "m", 0), obj(true, ""), obj(true, "m", 1)), gr(0, obj(false, "m", 0), obj(false, "m", 0), obj(false, "m", 0)), [][2]int{{0, 2}}, []int{0, 0, 0}},
 		{gr(0, con("*", 2, 3), con("*", 4, 5), va, va, con("int"), va), gr(0, con("*", 2, 3), con("*", 2, 3), con("int"), va, con("int"), va), [][2]int{{0, 1}, {0, 0}, {1, 0}}, []int{0, 0, 2, 3, 2, 3}},
 	} {
-		h, of, e := Unify(c.g, c.pairs)
+		h, of, e := solve.Unify(c.g, c.pairs)
 		if e != api.OK || !equal(h, c.h) || !slices.Equal(of, c.of) {
 			t.Error(i, h, of, e)
 		}
@@ -49,7 +50,7 @@ func TestUnifyFaults(t *testing.T) {
 		{gr(0, obj(true, "m", 2), obj(true, "m", 3), con("int"), con("bool")), [][2]int{{0, 1}}, api.ErrType}, {gr(0, obj(false, "mn", 0, 0), obj(true, "m", 0), obj(true, "o", 0)), [][2]int{{1, 2}, {0, 1}}, api.ErrType},
 		{gr(0, obj(false, "mn", 0, 0), obj(true, "m", 0), obj(true, "o", 0)), [][2]int{{0, 1}, {1, 2}}, api.ErrType}, {gr(0, con("int"), con("bool"), va), [][2]int{{0, 2}, {2, 1}}, api.ErrType},
 	} {
-		h, of, e := Unify(c.g, c.pairs)
+		h, of, e := solve.Unify(c.g, c.pairs)
 		if e != c.want || of != nil || !equal(h, api.Graph{}) {
 			t.Error(i, h, of, e)
 		}
@@ -64,7 +65,7 @@ func TestMeet(t *testing.T) {
 	} {
 		g, _ := load.Read(c[0])
 		h, _ := load.Read(c[1])
-		u, e := Meet(g, h)
+		u, e := solve.Meet(g, h)
 		if c[2] == "" {
 			if e != api.ErrType || !equal(u, api.Graph{}) {
 				t.Error(c, u, e)
@@ -83,7 +84,7 @@ func TestMeet(t *testing.T) {
 		g, h api.Graph
 		want api.Errno
 	}{{api.Graph{}, more, api.ErrArg}, {ok, api.Graph{}, api.ErrArg}, {more, api.Graph{}, api.ErrLong}, {many, more, api.ErrLong}, {many, api.Graph{}, api.ErrArg}, {many, ok, api.ErrLong}, {ok, many, api.ErrLong}, {api.Graph{N: many.N[1:]}, ok, api.OK}} {
-		if _, e := Meet(c.g, c.h); e != c.want {
+		if _, e := solve.Meet(c.g, c.h); e != c.want {
 			t.Error(i, e)
 		}
 	}
@@ -91,7 +92,7 @@ func TestMeet(t *testing.T) {
 
 // like says whether two graphs unfold alike: the tests' types have no free nodes that tell it otherwise.
 func like(g, h api.Graph) bool {
-	u, of, e := Unify(g, nil)
+	u, of, e := solve.Unify(g, nil)
 	if e != api.OK || len(of) != len(u.N) {
 		return false
 	}
@@ -131,20 +132,20 @@ func TestLaws(t *testing.T) {
 	for range 20000 {
 		n := 2 + r.Intn(6)
 		g := random(r, n)
-		if m, e := Meet(g, g); e != api.OK || !graph.Same(m, g) {
+		if m, e := solve.Meet(g, g); e != api.OK || !graph.Same(m, g) {
 			t.Fatal(g, m)
 		}
 		var pairs [][2]int
 		for range r.Intn(3) {
 			pairs = append(pairs, [2]int{r.Intn(n), r.Intn(n)})
 		}
-		h, of, e := Unify(g, pairs)
+		h, of, e := solve.Unify(g, pairs)
 		back := slices.Clone(pairs)
 		slices.Reverse(back)
 		for i := range back {
 			back[i][0], back[i][1] = back[i][1], back[i][0]
 		}
-		h2, of2, e2 := Unify(g, back)
+		h2, of2, e2 := solve.Unify(g, back)
 		if e != e2 || !equal(h, h2) || !slices.Equal(of, of2) {
 			t.Fatal(g, pairs)
 		}
@@ -156,7 +157,7 @@ func TestLaws(t *testing.T) {
 			continue
 		}
 		fine++
-		h3, _, e3 := Unify(h, pairs)
+		h3, _, e3 := solve.Unify(h, pairs)
 		if e3 != api.OK || !equal(h3, h) || !slices.Equal(of, want) || h.Root != of[g.Root] {
 			t.Fatal(g, pairs, h, of, want)
 		}
@@ -228,12 +229,12 @@ func TestGreat(t *testing.T) {
 	for i := range n {
 		g.N = append(g.N, con("->", (i+1)%n, (i*7)%n))
 	}
-	h, of, e := Unify(g, [][2]int{{0, 1}})
+	h, of, e := solve.Unify(g, [][2]int{{0, 1}})
 	if e != api.OK || of[n-1] != 0 || len(h.N) != n {
 		t.Error(e)
 	}
 	g = gr(0, obj(true, "ab", 0, 0), obj(true, "c", 1))
-	h, _, _ = Unify(g, [][2]int{{0, 1}})
+	h, _, _ = solve.Unify(g, [][2]int{{0, 1}})
 	h.N[0].Labels[0], h.N[0].Args[0], h.N[1].Args[1] = "z", 9, 9
 	if g.N[0].Labels[0] != "a" || g.N[0].Args[0] != 0 || h.N[1].Labels[0] != "a" || h.N[0].Args[1] != 0 {
 		t.Error("shared")

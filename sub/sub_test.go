@@ -1,4 +1,4 @@
-package sub
+package sub_test
 
 import (
 	"math/rand"
@@ -10,6 +10,7 @@ import (
 	"trefoil/load"
 	"trefoil/name"
 	"trefoil/sample"
+	"trefoil/sub"
 )
 
 var con, obj, gr, va = sample.Con, sample.Obj, sample.Graph, sample.Var()
@@ -36,8 +37,8 @@ func TestIs(t *testing.T) {
 		{"unit * string", "unit * string", true, true}, {"< a : int ; b : int ; c : int >", "< b : int >", true, false}, {"< a : int ; b : int ; c : int >", "< a : int ; c : bool >", false, false},
 	} {
 		g, h := read(t, c.g), read(t, c.h)
-		is, e := Is(g, h)
-		back, e2 := Is(h, g)
+		is, e := sub.Is(g, h)
+		back, e2 := sub.Is(h, g)
 		if e != api.OK || e2 != api.OK || is != c.is || back != c.back {
 			t.Error(c, is, back, e, e2)
 		}
@@ -53,7 +54,7 @@ func TestFaults(t *testing.T) {
 	}{
 		{bad, long, api.ErrArg}, {long, bad, api.ErrLong}, {ok, long, api.ErrLong}, {open, long, api.ErrLong}, {open, bad, api.ErrArg}, {ok, open, api.ErrArg}, {open, ok, api.ErrArg}, {gr(0, obj(true, "")), ok, api.ErrArg}, {gr(1, va, con("int")), ok, api.OK},
 	} {
-		is, e := Is(c.g, c.h)
+		is, e := sub.Is(c.g, c.h)
 		if e != c.want || is != (e == api.OK) {
 			t.Error(i, is, e)
 		}
@@ -68,7 +69,7 @@ func TestForget(t *testing.T) {
 	} {
 		g := read(t, c[0])
 		was := slices.Clone(g.N[0].Labels)
-		h, e := Forget(g, c[1])
+		h, e := sub.Forget(g, c[1])
 		if e != api.OK || !graph.Same(h, read(t, c[2])) || h.Root != 0 || len(graph.Trim(h).N) != len(h.N) || !slices.Equal(g.N[0].Labels, was) {
 			s, _ := name.Put(h)
 			t.Error(c, s, e)
@@ -79,13 +80,13 @@ func TestForget(t *testing.T) {
 		s    string
 		want api.Errno
 	}{{api.Graph{}, "m", api.ErrArg}, {api.Graph{N: make([]api.Node, api.MaxNodes+1)}, "m", api.ErrLong}, {gr(0, con("int")), "m", api.ErrNone}, {gr(0, va), "", api.ErrNone}, {gr(0, obj(true, "m", 0)), "n", api.ErrNone}, {gr(0, obj(true, "m", 0)), "", api.ErrNone}, {gr(0, con("->", 1, 1), obj(false, "m", 0)), "m", api.ErrNone}} {
-		if h, e := Forget(c.g, c.s); e != c.want || len(h.N) != 0 {
+		if h, e := sub.Forget(c.g, c.s); e != c.want || len(h.N) != 0 {
 			t.Error(i, e)
 		}
 	}
 	many := api.Graph{N: slices.Repeat([]api.Node{va}, api.MaxNodes)}
 	many.N[0] = obj(false, "mn", 1, 2)
-	if h, e := Forget(many, "m"); e != api.OK || len(h.N) != 2 {
+	if h, e := sub.Forget(many, "m"); e != api.OK || len(h.N) != 2 {
 		t.Error("as many nodes as there may be", e, len(h.N))
 	}
 }
@@ -139,7 +140,7 @@ func TestLaws(t *testing.T) {
 	is, both := 0, 0
 	for range 20000 {
 		g, h, k := random(r, 1+r.Intn(5)), random(r, 1+r.Intn(5)), random(r, 1+r.Intn(3))
-		stands := func(a, b api.Graph) bool { ok, _ := Is(a, b); return ok }
+		stands := func(a, b api.Graph) bool { ok, _ := sub.Is(a, b); return ok }
 		if stands(g, h) != slow(g, h) || !stands(g, g) {
 			t.Fatal(g, h)
 		}
@@ -155,7 +156,7 @@ func TestLaws(t *testing.T) {
 				}
 			}
 		}
-		if f, e := Forget(g, "m"); e == api.OK && !stands(g, f) {
+		if f, e := sub.Forget(g, "m"); e == api.OK && !stands(g, f) {
 			t.Fatal(g, f)
 		}
 	}
@@ -175,7 +176,7 @@ func TestGreat(t *testing.T) {
 		}
 		return g
 	}
-	if ok, e := Is(ring(300007, obj(false, "mn")), ring(299993, obj(false, "m"))); !ok || e != api.OK {
+	if ok, e := sub.Is(ring(300007, obj(false, "mn")), ring(299993, obj(false, "m"))); !ok || e != api.OK {
 		t.Error(ok, e)
 	}
 }

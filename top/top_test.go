@@ -1,4 +1,4 @@
-package top
+package top_test
 
 import (
 	"math/rand"
@@ -10,13 +10,14 @@ import (
 	"trefoil/api"
 	"trefoil/load"
 	"trefoil/name"
+	"trefoil/top"
 )
 
 const much = 100000
 
 // P20.1: answers, one behind the other, and what they come to.
 func TestTalk(t *testing.T) {
-	s := New()
+	s := top.New()
 	for _, c := range []struct {
 		text, want string
 		no         api.Errno
@@ -40,7 +41,7 @@ func TestTalk(t *testing.T) {
 
 // P20.1: limits, in their place among the answers.
 func TestLimits(t *testing.T) {
-	s := New()
+	s := top.New()
 	for _, c := range []struct {
 		text         string
 		budget, fuel int
@@ -86,11 +87,11 @@ func TestLimits(t *testing.T) {
 
 // P20.1, P20.2: a nil Session, and a new one.
 func TestNil(t *testing.T) {
-	var s *Session
+	var s *top.Session
 	if s.Do("1", 1, 1) != "" || s.Verdict() != api.ErrNil || s.Values() != nil || s.Classes() != nil {
 		t.Error("nil")
 	}
-	s = New()
+	s = top.New()
 	if s.Verdict() != api.OK || strings.Join(s.Values(), " ") != "fst not snd" || len(s.Classes()) != 0 {
 		t.Error("new")
 	}
@@ -215,7 +216,7 @@ func TestMadeUp(t *testing.T) {
 	count := map[string]int{}
 	for seed := range 400 {
 		w := &writer{Rand: rand.New(rand.NewSource(int64(seed))), names: []string{"x", "y", "g", "f", "fst", "not"}}
-		s, u := New(), New()
+		s, u := top.New(), top.New()
 		for _, x := range []string{"let x = 1", "let y = fun z -> z", "let g = object method m = 1 method n = fun z -> z end", "let rec f x = f x", "class c = object method m = 1 end", "class d x = object val v = x method m = v end", "class e = object (s) method n = s end"} {
 			s.Do(x, much, much)
 			u.Do(x, much, much)

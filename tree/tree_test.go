@@ -1,10 +1,11 @@
-package tree
+package tree_test
 
 import (
 	"strings"
 	"testing"
 
 	"trefoil/api"
+	"trefoil/tree"
 )
 
 type ex = api.Expr
@@ -43,10 +44,10 @@ func good() []ex {
 // P2.2: what may be.
 func TestCheckGood(t *testing.T) {
 	for i, e := range good() {
-		if got := Check(e); got != api.OK {
+		if got := tree.Check(e); got != api.OK {
 			t.Error(i, got)
 		}
-		if got := Check(one(api.Pair, "", one1, e)); got != api.OK {
+		if got := tree.Check(one(api.Pair, "", one1, e)); got != api.OK {
 			t.Error("within a pair", i, got)
 		}
 	}
@@ -91,7 +92,7 @@ func changed(e ex) []ex {
 func TestCheckBad(t *testing.T) {
 	for i, e := range good() {
 		for j, x := range changed(e) {
-			if got := Check(x); got != api.ErrArg {
+			if got := tree.Check(x); got != api.ErrArg {
 				t.Error(i, j, x.Kind, got)
 			}
 		}
@@ -108,7 +109,7 @@ func TestCheckBad(t *testing.T) {
 		object("s", api.Member{Kind: api.Val, Name: "v", Types: []ty{tInt}, Args: []ex{one1}}), object("s", member(api.Val, "v", "", ex{})),
 		object("s", api.Member{Kind: api.Inherit, Name: "v", Types: []ty{tInt}}),
 	} {
-		if got := Check(e); got != api.ErrArg {
+		if got := tree.Check(e); got != api.ErrArg {
 			t.Error(i, got)
 		}
 	}
@@ -122,10 +123,10 @@ func TestCheckType(t *testing.T) {
 		{Kind: api.TVar, S: "a"}, {Kind: api.TVar, S: "let"}, {Kind: api.TObj}, {Kind: api.TObj, Open: true},
 		{Kind: api.TObj, Labels: []string{"_", "a", "aB", "ab"}, Args: []ty{tInt, tInt, tInt, tInt}}, {Kind: api.TAs, S: "in", Args: []ty{tInt}},
 	} {
-		if got := CheckType(x); got != api.OK {
+		if got := tree.CheckType(x); got != api.OK {
 			t.Error(i, got)
 		}
-		if got := CheckType(arrow("*", tInt, x)); got != api.OK {
+		if got := tree.CheckType(arrow("*", tInt, x)); got != api.OK {
 			t.Error("within a product", i, got)
 		}
 	}
@@ -138,7 +139,7 @@ func TestCheckType(t *testing.T) {
 		{Kind: api.TObj, Labels: []string{"let"}, Args: []ty{tInt}}, {Kind: api.TAs, S: "a"}, {Kind: api.TAs, Args: []ty{tInt}}, {Kind: api.TAs, S: "a", Args: []ty{tInt, tInt}},
 		{Kind: api.TAs, S: "a", Args: []ty{tInt}, Open: true},
 	} {
-		if got := CheckType(x); got != api.ErrArg {
+		if got := tree.CheckType(x); got != api.ErrArg {
 			t.Error(i, got)
 		}
 	}
@@ -175,12 +176,12 @@ func TestDeep(t *testing.T) {
 		{object("", api.Member{Kind: api.Virtual, Name: "m", Types: []ty{nestType(api.MaxDeep + 1)}}), api.ErrDeep},
 		{nest(1000000), api.ErrDeep},
 	} {
-		if got := Check(c.e); got != c.want {
+		if got := tree.Check(c.e); got != c.want {
 			t.Error(i, got)
 		}
 	}
 	deep := ty{Kind: api.TCon, S: "*", Args: []ty{nestType(1000000), {}}}
-	if CheckType(deep) != api.ErrArg || CheckType(nestType(1000000)) != api.ErrDeep || CheckType(nestType(api.MaxDeep)) != api.OK {
+	if tree.CheckType(deep) != api.ErrArg || tree.CheckType(nestType(1000000)) != api.ErrDeep || tree.CheckType(nestType(api.MaxDeep)) != api.OK {
 		t.Error("types")
 	}
 }
@@ -197,8 +198,8 @@ func TestSizeAndDeep(t *testing.T) {
 		{ex{Kind: 99, Args: []ex{call}, Members: []api.Member{{Args: []ex{call}}}}, 12, 5},
 		{ex{Kind: api.Annot, Types: []ty{nestType(9)}, Args: []ex{one1}}, 2, 2}, {nest(500000), 500000, 500000},
 	} {
-		if Size(c.e) != c.size || Deep(c.e) != c.deep {
-			t.Error(i, Size(c.e), Deep(c.e))
+		if tree.Size(c.e) != c.size || tree.Deep(c.e) != c.deep {
+			t.Error(i, tree.Size(c.e), tree.Deep(c.e))
 		}
 	}
 }
@@ -208,12 +209,12 @@ func TestSame(t *testing.T) {
 	l := good()
 	for i, e := range good() {
 		for j := range l {
-			if Same(e, l[j]) != (i == j) {
+			if tree.Same(e, l[j]) != (i == j) {
 				t.Error(i, j)
 			}
 		}
 		for j, x := range changed(e) {
-			if Same(e, x) || Same(x, e) || !Same(x, x) {
+			if tree.Same(e, x) || tree.Same(x, e) || !tree.Same(x, x) {
 				t.Error("changed", i, j)
 			}
 		}
@@ -225,15 +226,15 @@ func TestSame(t *testing.T) {
 		func(m []api.Member) { m[1].Types = []ty{{Kind: api.TVar, S: "a"}} },
 	} {
 		b := object("s", append([]api.Member{}, a.Members...)...)
-		if !Same(a, b) {
+		if !tree.Same(a, b) {
 			t.Error("copy", i)
 		}
 		f(b.Members)
-		if Same(a, b) || Same(b, a) {
+		if tree.Same(a, b) || tree.Same(b, a) {
 			t.Error("member", i)
 		}
 	}
-	if !Same(ex{Args: []ex{}, Names: []string{}, Types: []ty{}, Members: []api.Member{}}, ex{}) || !Same(nest(500000), nest(500000)) || Same(nest(500000), nest(500001)) {
+	if !tree.Same(ex{Args: []ex{}, Names: []string{}, Types: []ty{}, Members: []api.Member{}}, ex{}) || !tree.Same(nest(500000), nest(500000)) || tree.Same(nest(500000), nest(500001)) {
 		t.Error("empty, deep")
 	}
 }
@@ -244,12 +245,12 @@ func TestSameType(t *testing.T) {
 		{Kind: api.TObj, Labels: []string{"a"}, Args: []ty{tInt}}, {Kind: api.TObj, Labels: []string{"b"}, Args: []ty{tInt}}, {Kind: api.TObj, Labels: []string{"a"}, Args: []ty{{}}}}
 	for i := range l {
 		for j := range l {
-			if SameType(l[i], l[j]) != (i == j) {
+			if tree.SameType(l[i], l[j]) != (i == j) {
 				t.Error(i, j)
 			}
 		}
 	}
-	if !SameType(ty{Args: []ty{}, Labels: []string{}}, ty{}) || !SameType(nestType(500000), nestType(500000)) {
+	if !tree.SameType(ty{Args: []ty{}, Labels: []string{}}, ty{}) || !tree.SameType(nestType(500000), nestType(500000)) {
 		t.Error("empty, deep")
 	}
 }
@@ -268,7 +269,7 @@ func TestValue(t *testing.T) {
 		{call, false}, {object(""), false}, {one(api.Let, "x", one1, one1), false}, {ex{Kind: api.Coerce, Types: []ty{tInt, tInt}, Args: []ex{one1}}, false},
 		{one(api.New, "c"), false}, {one(api.Seq, "", one1, one1), false}, {ex{}, false}, {ex{Kind: api.Pair}, false}, {ex{Kind: api.Annot}, false},
 	} {
-		if Value(c.e) != c.want {
+		if tree.Value(c.e) != c.want {
 			t.Error(i)
 		}
 	}
@@ -276,7 +277,7 @@ func TestValue(t *testing.T) {
 	for range 500000 {
 		e = annot(e)
 	}
-	if !Value(e) {
+	if !tree.Value(e) {
 		t.Error("deep")
 	}
 }
@@ -285,7 +286,7 @@ func TestValue(t *testing.T) {
 func TestParts(t *testing.T) {
 	for i, e := range good() {
 		for _, a := range e.Args {
-			if Check(a) != api.OK || Size(a) >= Size(e) || Deep(a) >= Deep(e) {
+			if tree.Check(a) != api.OK || tree.Size(a) >= tree.Size(e) || tree.Deep(a) >= tree.Deep(e) {
 				t.Error(i)
 			}
 		}

@@ -1,4 +1,4 @@
-package typ
+package typ_test
 
 import (
 	"math/rand"
@@ -8,6 +8,7 @@ import (
 	"trefoil/api"
 	"trefoil/lex"
 	"trefoil/tree"
+	"trefoil/typ"
 )
 
 type ty = api.Type
@@ -56,11 +57,11 @@ func table() map[string]ty {
 // P3.1, P3.2, P3.3: what is put, and read.
 func TestPutAndParse(t *testing.T) {
 	for text, want := range table() {
-		if s, e := Put(want); e != api.OK || s != text {
+		if s, e := typ.Put(want); e != api.OK || s != text {
 			t.Errorf("%q: %q %d", text, s, e)
 		}
 		l := tokens(t, text)
-		if got, at, e := Parse(l, 0); e != api.OK || at != len(l)-1 || !tree.SameType(got, want) {
+		if got, at, e := typ.Parse(l, 0); e != api.OK || at != len(l)-1 || !tree.SameType(got, want) {
 			t.Errorf("%q: %v %d %d", text, got, at, e)
 		}
 	}
@@ -78,8 +79,8 @@ func TestParse(t *testing.T) {
 		{"< b : int ; a : bool ; .. > >", 0, 11, "< a : bool ; b : int ; .. >"}, {"int :> bool", 0, 1, "int"}, {"int->(bool*'a)*int", 0, 9, "int -> (bool * 'a) * int"},
 		{"<int:int;bool:int>", 0, 9, "< bool : int ; int : int >"}, {"(int -> bool) as 'a", 0, 7, "int -> bool as 'a"}, {"<>", 0, 2, "< >"}, {"int method", 0, 1, "int"},
 	} {
-		got, at, e := Parse(tokens(t, c.text), c.at)
-		if s, _ := Put(got); e != api.OK || at != c.want || s != c.put {
+		got, at, e := typ.Parse(tokens(t, c.text), c.at)
+		if s, _ := typ.Put(got); e != api.OK || at != c.want || s != c.put {
 			t.Errorf("%q: %q %d %d", c.text, s, at, e)
 		}
 	}
@@ -94,7 +95,7 @@ func TestParseFaults(t *testing.T) {
 		"< m : int ; m : bool >": 5, "< m : int ; m : bool": 5, "< m : int ; m : )": 7, "< m : int ; n : int ; m : < n : int ; n : x": 18, "< m : int ; m : < a : int ; a : int > >": 12,
 		"'a 'b -> ": -1, "val": 0, "\"int\"": 0, "(* int *) in": 0,
 	} {
-		got, at, e := Parse(tokens(t, text), 0)
+		got, at, e := typ.Parse(tokens(t, text), 0)
 		if want < 0 {
 			if e != api.OK {
 				t.Error(text, e)
@@ -123,7 +124,7 @@ func TestParseArguments(t *testing.T) {
 		{[]api.Token{in, {Kind: api.Sym, S: "<"}, {Kind: api.Name, S: "let"}, {Kind: api.Sym, S: ":"}, in, {Kind: api.Sym, S: ">"}, end}, 1, api.ErrForm, 1},
 		{[]api.Token{{Kind: 99, S: "int"}, end}, 0, api.ErrForm, 0}, {[]api.Token{{Kind: api.Key, S: "int"}, end}, 0, api.ErrForm, 0}, {[]api.Token{in, end}, 1 << 40, api.ErrArg, 0},
 	} {
-		if _, at, e := Parse(c.l, c.at); e != c.want || at != c.behind {
+		if _, at, e := typ.Parse(c.l, c.at); e != c.want || at != c.behind {
 			t.Error(i, at, e)
 		}
 	}
@@ -140,7 +141,7 @@ func TestParseDeep(t *testing.T) {
 		{"int" + strings.Repeat(" as 'a", api.MaxDeep), api.ErrDeep}, {strings.Repeat("int * ", 300), api.ErrForm},
 	} {
 		l := tokens(t, c.text)
-		if _, at, e := Parse(l, 0); e != c.want || e == api.ErrDeep && at != 0 {
+		if _, at, e := typ.Parse(l, 0); e != c.want || e == api.ErrDeep && at != 0 {
 			t.Errorf("%.20q: %d %d", c.text, at, e)
 		}
 	}
@@ -148,11 +149,11 @@ func TestParseDeep(t *testing.T) {
 	for i := range l[1:] {
 		l[i] = api.Token{Kind: api.Sym, S: "("}
 	}
-	if _, at, e := Parse(l, 1); e != api.ErrForm || at != len(l)-1 {
+	if _, at, e := typ.Parse(l, 1); e != api.ErrForm || at != len(l)-1 {
 		t.Error(at, e)
 	}
 	x := tokens(t, "( "+strings.Repeat("int -> ", 300)+"int")
-	if _, at, e := Parse(x, 1); e != api.ErrDeep || at != 1 {
+	if _, at, e := typ.Parse(x, 1); e != api.ErrDeep || at != 1 {
 		t.Error(at, e)
 	}
 }
@@ -167,7 +168,7 @@ func TestPutFaults(t *testing.T) {
 		t    ty
 		want api.Errno
 	}{{ty{}, api.ErrArg}, {con("->", in), api.ErrArg}, {deep, api.ErrDeep}, {con("*", deep, ty{}), api.ErrArg}} {
-		if s, e := Put(c.t); s != "" || e != c.want {
+		if s, e := typ.Put(c.t); s != "" || e != c.want {
 			t.Error(i, s, e)
 		}
 	}
@@ -197,9 +198,9 @@ func TestRound(t *testing.T) {
 	r := rand.New(rand.NewSource(2))
 	for range 3000 {
 		x := random(r, 5)
-		s, e := Put(x)
+		s, e := typ.Put(x)
 		l := tokens(t, s)
-		got, at, e2 := Parse(l, 0)
+		got, at, e2 := typ.Parse(l, 0)
 		if e != api.OK || e2 != api.OK || at != len(l)-1 || !tree.SameType(got, x) {
 			t.Fatalf("%q %d %d", s, e, e2)
 		}

@@ -1,4 +1,4 @@
-package value
+package value_test
 
 import (
 	"math"
@@ -7,6 +7,7 @@ import (
 
 	"trefoil/api"
 	"trefoil/lex"
+	"trefoil/value"
 )
 
 const least, most = math.MinInt64, math.MaxInt64
@@ -22,7 +23,7 @@ func TestNum(t *testing.T) {
 		{"/", -7, 2, -3, api.OK}, {"/", 7, -2, -3, api.OK}, {"/", 7, 2, 3, api.OK}, {"/", -7, -2, 3, api.OK}, {"/", least, -1, least, api.OK}, {"/", 1, 0, 0, api.ErrZero}, {"/", 0, 0, 0, api.ErrZero}, {"/", 0, 5, 0, api.OK},
 		{"=", 1, 1, 0, api.ErrArg}, {"<", 1, 2, 0, api.ErrArg}, {"", 1, 0, 0, api.ErrArg}, {"//", 1, 0, 0, api.ErrArg}, {"%", 7, 2, 0, api.ErrArg},
 	} {
-		if n, e := Num(c.op, c.a, c.b); n != c.n || e != c.e {
+		if n, e := value.Num(c.op, c.a, c.b); n != c.n || e != c.e {
 			t.Error(i, n, e)
 		}
 	}
@@ -32,7 +33,7 @@ func TestNum(t *testing.T) {
 		is   bool
 		e    api.Errno
 	}{{"=", 1, 1, true, api.OK}, {"=", 1, 2, false, api.OK}, {"<", 1, 2, true, api.OK}, {"<", 2, 2, false, api.OK}, {"<", least, most, true, api.OK}, {"<", 3, 2, false, api.OK}, {"+", 1, 1, false, api.ErrArg}, {"", 1, 1, false, api.ErrArg}, {"<=", 1, 1, false, api.ErrArg}} {
-		if is, e := Test(c.op, c.a, c.b); is != c.is || e != c.e {
+		if is, e := value.Test(c.op, c.a, c.b); is != c.is || e != c.e {
 			t.Error(i, is, e)
 		}
 	}
@@ -40,16 +41,16 @@ func TestNum(t *testing.T) {
 
 // P18.2: texts.
 func TestTexts(t *testing.T) {
-	if Int(0) != "0" || Int(-5) != "-5" || Int(least) != "-9223372036854775808" || Int(most) != "9223372036854775807" || Bool(true) != "true" || Bool(false) != "false" || Pair("1", "true") != "(1, true)" || Pair("", "(a, b)") != "(, (a, b))" {
+	if value.Int(0) != "0" || value.Int(-5) != "-5" || value.Int(least) != "-9223372036854775808" || value.Int(most) != "9223372036854775807" || value.Bool(true) != "true" || value.Bool(false) != "false" || value.Pair("1", "true") != "(1, true)" || value.Pair("", "(a, b)") != "(, (a, b))" {
 		t.Error("texts")
 	}
 	for _, s := range []string{"", "a", "\n\\\"", "\t\xff'", "\\n", "(* *)"} {
-		if put, e := lex.Put(api.Token{Kind: api.Str, S: s}); Text(s) != put || e != api.OK {
+		if put, e := lex.Put(api.Token{Kind: api.Str, S: s}); value.Text(s) != put || e != api.OK {
 			t.Errorf("%q", s)
 		}
 	}
 	long := make([]byte, 200000)
-	if len(Text(string(long))) != 200002 {
+	if len(value.Text(string(long))) != 200002 {
 		t.Error("long")
 	}
 }
@@ -59,19 +60,19 @@ func TestLaws(t *testing.T) {
 	r := rand.New(rand.NewSource(12))
 	for range 20000 {
 		a, b := int64(r.Uint64())>>r.Intn(64), int64(r.Uint64())>>r.Intn(64)
-		sum, _ := Num("+", a, b)
-		if back, e := Num("-", sum, b); back != a || e != api.OK {
+		sum, _ := value.Num("+", a, b)
+		if back, e := value.Num("-", sum, b); back != a || e != api.OK {
 			t.Fatal(a, b)
 		}
-		q, e := Num("/", a, b)
+		q, e := value.Num("/", a, b)
 		if e != api.OK {
 			if b != 0 || e != api.ErrZero {
 				t.Fatal(a, b, e)
 			}
 			continue
 		}
-		p, _ := Num("*", q, b)
-		rest, _ := Num("-", a, p)
+		p, _ := value.Num("*", q, b)
+		rest, _ := value.Num("-", a, p)
 		if b != -1 && (rest <= -abs(b) && b != least || rest >= abs(b) && b != least || rest < 0 && a > 0 || rest > 0 && a < 0) {
 			t.Fatal(a, b, q, rest)
 		}
