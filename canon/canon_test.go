@@ -34,7 +34,8 @@ func TestClasses(t *testing.T) {
 // P9.2: keys.
 func TestKey(t *testing.T) {
 	for text, want := range map[string]string{
-		"int -> int -> 'a as 'a": "-> 1 0;int;", "int -> 'a as 'a": "-> 1 0;int;", "'a": "v;", "int": "int;", "< >": "<;", "< .. >": "<..;", "< m : 'a > as 'a": "<m 0;", "< m : int ; .. > -> 'a": "-> 1 3;<..m 2;int;v;",
+		"int -> int -> 'a as 'a": "-> 1 0;int;", "int -> 'a as 'a": "-> 1 0;int;", "'a": "v;", "int": "int;", "< >": "<;", "< .. >": "<..;", "< m : 'a > as 'a": "< m 0;", "< m : int ; .. > -> 'a": "-> 1 3;<.. m 2;int;v;",
+		"< m : int ; n : int >": "< m n 1 1;int;", "< m : (< m : < m : 'a > > as 'a) >": "< m 0;", "< m : 'a ; .. > as 'a": "<.. m 0;", "< > * < .. >": "* 1 2;<;<..;", "< m1 : int ; m2 : < _1 : 'a ; .. > >": "< m1 m2 1 2;int;<.. _1 3;v;",
 		"(int -> int) * (int -> int)": "* 1 1;-> 2 2;int;", "'a * 'b * 'a": "* 1 2;v;* 3 1;v;",
 	} {
 		g, e := load.Read(text)
@@ -53,11 +54,33 @@ func TestBad(t *testing.T) {
 	}
 }
 
+// P9.2, P9.3: labels are told apart, wherever one ends and the next begins.
+func TestLabels(t *testing.T) {
+	keys := map[string]int{}
+	for i, l := range cuts {
+		for j, open := range []bool{false, true} {
+			key := canon.Key(gr(0, long(open, l, 1), con("int")))
+			if was, ok := keys[key]; ok {
+				t.Errorf("%v %t: %q, as %v", l, open, key, cuts[was/2])
+			}
+			keys[key] = 2*i + j
+		}
+	}
+}
+
+// cuts are labels that are the same bytes, one behind the other.
+var cuts = [][]string{{"abcd"}, {"a", "bcd"}, {"ab", "cd"}, {"abc", "d"}, {"a", "b", "cd"}, {"a", "bc", "d"}, {"ab", "c", "d"}, {"a", "b", "c", "d"}}
+
+// long is an object of labels of any length, all of one node.
+func long(open bool, labels []string, arg int) api.Node {
+	return api.Node{Kind: api.NObj, Open: open, Labels: labels, Args: slices.Repeat([]int{arg}, len(labels))}
+}
+
 func random(r *rand.Rand, n int) api.Graph {
 	g := api.Graph{Root: r.Intn(n)}
 	a := func() int { return r.Intn(n) }
 	for range n {
-		g.N = append(g.N, []api.Node{va, con("int"), con("->", a(), a()), con("->", a(), a()), con("*", a(), a()), obj(false, "m", a()), obj(r.Intn(2) == 0, "m", a()), obj(false, "mn", a(), a()), obj(r.Intn(2) == 0, "")}[r.Intn(9)])
+		g.N = append(g.N, []api.Node{va, con("int"), con("->", a(), a()), con("->", a(), a()), con("*", a(), a()), obj(false, "m", a()), obj(r.Intn(2) == 0, "m", a()), obj(false, "mn", a(), a()), obj(r.Intn(2) == 0, ""), long(r.Intn(2) == 0, cuts[r.Intn(len(cuts))], a())}[r.Intn(10)])
 	}
 	return g
 }
